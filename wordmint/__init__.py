@@ -1,0 +1,1 @@
+"""Wordmint: a stack language whose words make words."""

@@ -1,0 +1,44 @@
+"""The frames of a machine, and how an instruction tells that it cannot be done now."""
+
+from wordmint.errors import Thrown
+
+
+class Halt(Exception):
+    """The next instruction cannot be done: asks, over or deep. It is no error of the machine."""
+
+    def __init__(self, kind):
+        self.kind = kind
+
+
+class Frame:
+    """A word that is being run: its number, the place, own items, locals, and what is kept for a catch, or None."""
+
+    def __init__(self, number, kept=None):
+        self.number = number
+        self.place = 0
+        self.own = []
+        self.locals = []
+        self.kept = kept
+
+    def view(self):
+        """The frame as a tuple."""
+        return (self.number, self.place, tuple(self.own), tuple(self.locals), self.kept)
+
+    def copy(self):
+        """A frame like this one that goes its own way."""
+        other = Frame(self.number, self.kept)
+        other.place = self.place
+        other.own = list(self.own)
+        other.locals = list(self.locals)
+        return other
+
+    def need_no_own(self):
+        """Throws an error if own items are left."""
+        if self.own:
+            raise Thrown(-3)
+
+    def become(self, number):
+        """Goes on as a word at its first place; what is kept stays."""
+        self.number = number
+        self.place = 0
+        self.locals = []

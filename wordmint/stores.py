@@ -1,0 +1,130 @@
+"""Stores: the words of a program, with their memory."""
+
+from wordmint.cells import check_width, is_between
+from wordmint.effects import check
+from wordmint.errors import BadEffect, BadName, NoWord, TooMany, Unfit
+from wordmint.forms import Word, check_body, fits, is_effect
+from wordmint.memory import Memory
+from wordmint.reading import is_name
+
+MOST_WORDS = 400
+NO_HOME = -1
+DEFERRED_BODY = (("deferred", 0), ("exit", 0))
+
+
+def is_word(store, number):
+    """Whether the store has a word with this number."""
+    return is_between(number, 0, len(store.words) - 1)
+
+
+def need_word(store, number):
+    """Raises NoWord unless the store has a word with this number."""
+    if not is_word(store, number):
+        raise NoWord(number)
+
+
+def need_fit(store, action, wanted):
+    """Raises NoWord or Unfit unless the action is None or a word whose effect fits the wanted one."""
+    if action is not None:
+        need_word(store, action)
+        if not fits(store.words[action].effect, wanted):
+            raise Unfit(action)
+
+
+def check_new(store, name):
+    """Raises TooMany or BadName unless the store may have one more word of this name."""
+    if len(store.words) >= MOST_WORDS:
+        raise TooMany(MOST_WORDS)
+    if name != "" and not is_name(name):
+        raise BadName(name)
+
+
+def acting(word, action):
+    """A deferred word like this one, with this action."""
+    return Word(word.name, word.home, word.kind, word.immediate, word.body, word.declared, word.verdict,
+                action=action)
+
+
+def checked(words, word, body, declared):
+    """A word like this one, with this body and this declared effect, checked over older words."""
+    return Word(word.name, word.home, word.kind, word.immediate, body, declared, check(words, body, declared),
+                address=word.address, behaviour=word.behaviour, action=word.action, keeps=word.keeps)
+
+
+class Store:
+    """A width, a memory, and words, which are checked when they are added."""
+
+    def __init__(self, width):
+        check_width(width)
+        self.width = width
+        self.memory = Memory(width)
+        self.words = []
+
+    def __len__(self):
+        return len(self.words)
+
+    def __iter__(self):
+        return iter(self.words)
+
+    def __getitem__(self, at):
+        need_word(self, at)
+        return self.words[at]
+
+    def __eq__(self, other):
+        return (isinstance(other, Store) and self.width == other.width and self.memory == other.memory
+                and [word.plain() for word in self.words] == [word.plain() for word in other.words])
+
+    def copy(self):
+        """A store of the same words that goes its own way."""
+        other = Store(self.width)
+        other.memory = self.memory.copy()
+        other.words = list(self.words)
+        return other
+
+    def define(self, body, *, name="", declared=None, immediate=False):
+        """Adds a plain word; its number."""
+        check_new(self, name)
+        if declared is not None and not is_effect(declared):
+            raise BadEffect(declared)
+        check_body(self.width, body, len(self.words))
+        verdict = check(self.words, body, declared)
+        self.words.append(Word(name, NO_HOME, "plain", immediate, body, declared, verdict))
+        return len(self.words) - 1
+
+    def defer(self, declared, *, name="", action=None):
+        """Adds a deferred word; its number."""
+        check_new(self, name)
+        if not is_effect(declared):
+            raise BadEffect(declared)
+        need_fit(self, action, declared)
+        verdict = check(self.words, DEFERRED_BODY, declared)
+        self.words.append(Word(name, NO_HOME, "deferred", False, DEFERRED_BODY, declared, verdict, action=action))
+        return len(self.words) - 1
+
+    def act(self, number, action):
+        """Gives a deferred word its action, or None."""
+        need_word(self, number)
+        word = self.words[number]
+        if word.kind != "deferred":
+            raise Unfit(number)
+        need_fit(self, action, word.declared)
+        self.words[number] = acting(word, action)
+
+    def changed(self, number, body):
+        """A new store in which the word has this body, and its effect as its declared effect."""
+        need_word(self, number)
+        word = self.words[number]
+        effect = word.effect
+        if word.kind not in ("plain", "quote") or not is_effect(effect):
+            raise Unfit(number)
+        check_body(self.width, body, number)
+        words = self.words[:number]
+        words.append(checked(words, word, body, effect))
+        if words[number].effect is None:
+            raise Unfit(number)
+        # Words refer to older ones alone, so only the younger words can have another verdict now.
+        for younger in self.words[number + 1:]:
+            words.append(checked(words, younger, younger.body, younger.declared))
+        other = self.copy()
+        other.words = words
+        return other
