@@ -82,7 +82,8 @@ def reached_by_calls(store, number):
     found = {number: True}
     waiting = [number]
     while waiting:
-        for other in called(store, waiting.pop()):
+        caller = waiting.pop()
+        for other in called(store, caller):
             if other not in found:
                 found[other] = True
                 waiting.append(other)
