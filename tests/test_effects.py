@@ -285,6 +285,13 @@ class Bounds(Checks):
         text = "lit#0 unless#5 " + "recurse recurse exit " + "lit#0 throw " * 600 + "exit"
         self.refused(("long", 3, (1,) + (0,) * 601, None, None, 0), text, (0, 0))
 
+    def test_an_own_row_of_more_than_a_thousand_answers_is_none(self):
+        text = "lit#0 unless#4 recurse exit " + "lit#0 throw " * 999 + "exit"
+        self.refused(("long", 2, (1,), None, None, 0), text, (0, 0))
+        # Here the least row would have 1001 answers: the recurse ends its way, and the other way is too long.
+        text = "lit#0 unless#4 recurse exit " + "lit#0 throw " * 1000 + "exit"
+        self.refused(("long", 4 + 1999, (0,) * 1000, None, None, 0), text, (0, 0))
+
     def test_long_is_looked_at_only_at_first(self):
         # The loop leads back to its start by a row of 1000 answers, which is not too long.
         text = "lit#0 throw " * 1000 + "goto#0"

@@ -19,7 +19,8 @@ TAKES = {
     "0=": ("n", 0), "@": ("n", 0), "!": ("nn", -2), "c@": ("n", 0), "c!": ("nn", -2), "here": ("", 1),
     "allot": ("n", -1), ",": ("n", -1), "c,": ("n", -1), "cell": ("", 1), ".": ("n", -1), "emit": ("n", -1),
     "type": ("nn", -2), "ask": ("", 1), "unless#0": ("n", -1), "throw": ("n", -1), "perform": ("t", -1),
-    "run#0,0": ("t", -1), "run#2,1": ("xxt", -1), "catch#0": ("t", -1), "catch#2": ("xxt", -1), "is#1": ("t", -1),
+    "run#0,0": ("t", -1), "run#2,1": ("xxt", -1), "run#0,3": ("t", -1), "catch#0": ("t", -1), "catch#2": ("xxt", -1), "is#1": ("t", -1),
+    "call#0": ("", 0), "recurse": ("", 0), "jump#0": ("", 0), "goto#0": ("", 0), "exit": ("", 0),
 }
 ROOM = 8
 
@@ -64,7 +65,8 @@ class Ordinary(Case):
 
     def test_the_place_goes_on(self):
         for text in TAKES:
-            if text.partition("#")[0] not in ("unless", "perform", "run", "catch", "is", "ask", "type", "@"):
+            if text.partition("#")[0] not in ("unless", "perform", "run", "catch", "is", "ask", "type", "@", "call",
+                                              "recurse", "jump", "goto", "exit"):
                 stack = [0 if kind != "t" else (0,) for kind in TAKES[text][0]]
                 if text in ("/", "mod"):
                     stack[1] = 3
@@ -538,6 +540,17 @@ class Caught(Case):
         machine.calls[1].place = 1
         machine.pile.append(7)
         self.assertEqual((machine.step(), machine.stack), ("runs", (5,) * 20 + (7,)))
+
+    def test_a_stack_above_its_room_may_still_get_shorter(self):
+        store = store_of("drop " * 8 + "lit#7 throw " + "lit#0 " * 8 + "exit", "token#0 catch#8 swap dup exit")
+        machine = Machine(store, 1, stack=[5] * 12)
+        machine.go(10)
+        self.assertEqual(len(machine.stack), 4)
+        self.assertEqual(within(machine, 2, data=8, frames=2), "runs")
+        self.assertEqual((len(machine.stack), machine.at()), (13, (1, 2)))
+        machine.data = 8
+        self.assertEqual((machine.step(), machine.stack[-3:]), ("runs", (5, 7, 5)))
+        self.assertEqual((machine.step(), len(machine.stack), machine.at()), ("over", 13, (1, 3)))
 
     def test_exit_of_a_caught_word_does_not_look_at_the_room(self):
         machine = run("token#0 catch#0 exit", *([5] * 7), store=store_of("exit"), data=8)

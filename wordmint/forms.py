@@ -101,8 +101,6 @@ def is_good_at(width, body, number, place):
     op, arg = instruction
     if not isinstance(op, str) or (op == "locals" and place > 0):
         return False
-    if place == 0 and op in LOCAL_OPS:
-        return False
     if place == len(body) - 1 and op not in LAST_OPS:
         return False
     return is_argument(width, body, number, op, arg)

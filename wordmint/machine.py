@@ -89,6 +89,7 @@ class Machine:
         move = MOVES.get(op)
         act = ACTS.get(op)
         if move is None and act is None:
+            # The error is due ahead of all looks at the stack.
             if self.actions is None:
                 raise Thrown(-11)
             act = self.actions[op]
