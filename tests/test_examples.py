@@ -3,6 +3,7 @@
 import unittest
 
 from wordmint.machine import ended
+from wordmint.session import Session
 from wordmint.stores import Store
 
 
@@ -20,6 +21,22 @@ class Examples(unittest.TestCase):
         store.define((("lit", 5), ("token", 0), ("catch", 0), ("exit", 0)))
         machine = ended(store, 1)
         self.assertEqual([machine.kind, machine.stack, machine.steps], ["done", (5, 9), 6])
+
+    def test_a_word_and_its_output(self):
+        session = Session(16)
+        outcome = session.read([": sq dup * ;", "7 sq ."])
+        self.assertEqual([outcome.kind, outcome.output], ["done", "49 "])
+
+    def test_a_refused_reading(self):
+        session = Session(16)
+        outcome = session.read(["1 2 nope"])
+        self.assertEqual([outcome.kind, outcome.number, outcome.line, outcome.column, session.stack],
+                         ["error", -13, 0, 4, ()])
+
+    def test_words_that_make_words(self):
+        session = Session(16)
+        session.read([": constant create , [: @ ;] behave ;", "5 constant five", "five five +"])
+        self.assertEqual(session.stack, (10,))
 
 
 if __name__ == "__main__":

@@ -71,6 +71,50 @@ def is_plain(node, functions):
     return False
 
 
+CHANGING = "append clear extend insert pop remove reverse setdefault update add discard put".split()
+HEAPS = LIBRARY["heapq"]
+
+
+def last_name(node):
+    """The name of what an expression stands for, or of the field, with indexes and slices taken off."""
+    while isinstance(node, ast.Subscript):
+        node = node.value
+    if isinstance(node, ast.Attribute):
+        return node.attr
+    return node.id if isinstance(node, ast.Name) else None
+
+
+def walked_names(node):
+    """The names of what a loop walks, as far as it is no copy that is made on the spot."""
+    if isinstance(node, ast.Call):
+        if isinstance(node.func, ast.Attribute) and node.func.attr in ("items", "keys", "values"):
+            return walked_names(node.func.value)
+        if isinstance(node.func, ast.Name) and node.func.id in ("enumerate", "zip", "reversed"):
+            return {name for arg in node.args for name in walked_names(arg)}
+        return set()
+    if isinstance(node, ast.IfExp):
+        return walked_names(node.body) | walked_names(node.orelse)
+    if isinstance(node, ast.BoolOp):
+        return {name for value in node.values for name in walked_names(value)}
+    return {last_name(node)} - {None}
+
+
+def changed_names(nodes):
+    """The names of all that is changed in these statements or expressions."""
+    told = set()
+    for node in [part for top in nodes for part in ast.walk(top)]:
+        if isinstance(node, ast.Call):
+            if isinstance(node.func, ast.Attribute) and node.func.attr in CHANGING:
+                told.add(last_name(node.func.value))
+            if isinstance(node.func, ast.Name) and node.func.id in HEAPS:
+                told.add(last_name(node.args[0]))
+        if isinstance(node, ast.Subscript) and not isinstance(node.ctx, ast.Load):
+            told.add(last_name(node))
+        if isinstance(node, (ast.Attribute, ast.Name)) and isinstance(node.ctx, (ast.Store, ast.Del)):
+            told.add(last_name(node))
+    return told
+
+
 def own_methods():
     return {node.name for _, tree in trees() for part in ast.walk(tree) if isinstance(part, ast.ClassDef)
             for node in part.body if isinstance(node, ast.FunctionDef)}
@@ -182,6 +226,16 @@ class Rules(unittest.TestCase):
                         if isinstance(op, (ast.Is, ast.IsNot)):
                             self.assertIn(getattr(right, "value", 0), (None, True, False), where)
 
+    def test_what_a_loop_walks_is_not_changed(self):
+        for name, tree in trees():
+            for node in ast.walk(tree):
+                if isinstance(node, ast.For):
+                    self.assertEqual(walked_names(node.iter) & changed_names(node.body), set(), (name, node.lineno))
+                if isinstance(node, (ast.ListComp, ast.DictComp, ast.SetComp, ast.GeneratorExp)):
+                    walked = {each for part in node.generators for each in walked_names(part.iter)}
+                    parts = [part for part in ast.iter_child_nodes(node) if not isinstance(part, ast.comprehension)]
+                    self.assertEqual(walked & changed_names(parts), set(), (name, node.lineno))
+
     def test_strings(self):
         for name, tree in trees():
             told = docstrings(tree)
@@ -221,7 +275,8 @@ class Rules(unittest.TestCase):
                         self.assertNotIn(word, imported | classes, name)
                 if isinstance(node, ast.Attribute):
                     self.assertNotIn(node.attr, NEVER, name)
-                    self.assertFalse(node.attr.startswith("__"), (name, node.attr))
+                    if node.attr != "__init__" or not isinstance(node.ctx, ast.Load):
+                        self.assertFalse(node.attr.startswith("__"), (name, node.attr))
                     if isinstance(node.ctx, ast.Store):
                         self.assertNotIn(node.attr, BUILTIN_ATTRIBUTES, name)
 

@@ -64,14 +64,19 @@ class Source:
             column = 0
         return (line, 0)
 
+    def peek(self):
+        """The next word, which is not read; an empty string if none is left."""
+        line, column = self.start()
+        if line == len(self._lines):
+            return ""
+        return self._lines[line][column:].partition(" ")[0]
+
     def word(self):
         """Reads the next word; an empty string if none is left."""
+        word = self.peek()
         self.line, self.column = self.start()
-        if self.line == len(self._lines):
-            return ""
-        text = self._lines[self.line]
-        word = text[self.column:].partition(" ")[0]
-        self.column = min(self.column + len(word) + 1, len(text))
+        if word != "":
+            self.column = min(self.column + len(word) + 1, len(self._lines[self.line]))
         return word
 
     def _left(self):
@@ -109,7 +114,8 @@ class Source:
 
     def copy(self):
         """A source of the same text that stands at the same place."""
-        other = Source(self._lines)
+        other = Source(())
+        other._lines = self._lines
         other.line = self.line
         other.column = self.column
         return other

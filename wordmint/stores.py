@@ -51,6 +51,38 @@ def checked(words, word, body, declared):
                 address=word.address, behaviour=word.behaviour, action=word.action, keeps=word.keeps)
 
 
+def add_word(store, word):
+    """Adds a word at the end of the store; its number."""
+    store.words.append(word)
+    return len(store.words) - 1
+
+
+def add_plain(store, home, body, name, declared, immediate):
+    """Adds a plain word of a list; its number."""
+    check_new(store, name)
+    if declared is not None and not is_effect(declared):
+        raise BadEffect(declared)
+    check_body(store.width, body, len(store.words))
+    verdict = check(store.words, body, declared)
+    return add_word(store, Word(name, home, "plain", immediate, body, declared, verdict))
+
+
+def add_deferred(store, home, declared, name, action):
+    """Adds a deferred word of a list; its number."""
+    check_new(store, name)
+    if not is_effect(declared):
+        raise BadEffect(declared)
+    need_fit(store, action, declared)
+    verdict = check(store.words, DEFERRED_BODY, declared)
+    return add_word(store, Word(name, home, "deferred", False, DEFERRED_BODY, declared, verdict, action=action))
+
+
+def are_alike(one, other):
+    """Whether two stores have the same width, memory and words."""
+    return (one.width == other.width and one.memory == other.memory
+            and [word.plain() for word in one.words] == [word.plain() for word in other.words])
+
+
 class Store:
     """A width, a memory, and words, which are checked when they are added."""
 
@@ -71,8 +103,7 @@ class Store:
         return self.words[at]
 
     def __eq__(self, other):
-        return (isinstance(other, Store) and self.width == other.width and self.memory == other.memory
-                and [word.plain() for word in self.words] == [word.plain() for word in other.words])
+        return isinstance(other, Store) and are_alike(self, other)
 
     def copy(self):
         """A store of the same words that goes its own way."""
@@ -83,23 +114,11 @@ class Store:
 
     def define(self, body, *, name="", declared=None, immediate=False):
         """Adds a plain word; its number."""
-        check_new(self, name)
-        if declared is not None and not is_effect(declared):
-            raise BadEffect(declared)
-        check_body(self.width, body, len(self.words))
-        verdict = check(self.words, body, declared)
-        self.words.append(Word(name, NO_HOME, "plain", immediate, body, declared, verdict))
-        return len(self.words) - 1
+        return add_plain(self, NO_HOME, body, name, declared, immediate)
 
     def defer(self, declared, *, name="", action=None):
         """Adds a deferred word; its number."""
-        check_new(self, name)
-        if not is_effect(declared):
-            raise BadEffect(declared)
-        need_fit(self, action, declared)
-        verdict = check(self.words, DEFERRED_BODY, declared)
-        self.words.append(Word(name, NO_HOME, "deferred", False, DEFERRED_BODY, declared, verdict, action=action))
-        return len(self.words) - 1
+        return add_deferred(self, NO_HOME, declared, name, action)
 
     def act(self, number, action):
         """Gives a deferred word its action, or None."""
@@ -118,13 +137,13 @@ class Store:
         if word.kind not in ("plain", "quote") or not is_effect(effect):
             raise Unfit(number)
         check_body(self.width, body, number)
-        words = self.words[:number]
-        words.append(checked(words, word, body, effect))
-        if words[number].effect is None:
+        fresh = self.words[:number]
+        fresh.append(checked(fresh, word, body, effect))
+        if fresh[number].effect is None:
             raise Unfit(number)
         # Words refer to older ones alone, so only the younger words can have another verdict now.
         for younger in self.words[number + 1:]:
-            words.append(checked(words, younger, younger.body, younger.declared))
+            fresh.append(checked(fresh, younger, younger.body, younger.declared))
         other = self.copy()
-        other.words = words
+        other.words = fresh
         return other
