@@ -16,6 +16,8 @@ METHODS = """append clear copy count endswith extend find get index insert isaln
     items join keys ljust lower lstrip partition pop remove replace reverse rfind rjust rpartition rsplit rstrip
     setdefault split splitlines startswith strip update upper values zfill bit_length title capitalize swapcase casefold
     center expandtabs removeprefix removesuffix rindex isascii isdecimal add discard""".split()
+# Attributes that hold objects which are called.
+CALLED = ["earlier", "later"]
 DUNDERS = """__init__ __eq__ __repr__ __str__ __len__ __enter__ __exit__ __call__ __iter__ __lt__ __le__ __gt__ __ge__ __ne__
     __add__ __bool__ __contains__ __getitem__ __setitem__""".split()
 NEVER = "register mro elements open input law version_info with_traceback add_note".split()
@@ -199,6 +201,53 @@ class Files(unittest.TestCase):
                 del left[module]
 
 
+# What the interface lists for each module that stands: functions and values, and classes with their methods.
+INTERFACE = {
+    "errors": """MintError BadWidth BadNumber BadOp ByZero BadBase BadCode BadAddress BadByte NoRoom BadBody BadName BadEffect
+        Unfit NoWord TooMany TooLong BadItem BadRoom BadText NoEnd NoList LastList BadBlock Unknown Thrown Refused NotChecked
+        BadRegisters BadRow BadImage StillOpen BadMoment NoBreak""",
+    "cells": "WIDTHS ARITHMETIC half wrap is_number bytes_of number_of work show read_number",
+    "forms": "BUILDING EFFECTS fits both landings check_body Word Word.effect Word.plain",
+    "effects": "Summary Summary.effect Summary.__eq__ Refusal Refusal.__eq__ check standings",
+    "opening": "opened opened_places witness",
+    "memory": """Memory Memory.__len__ Memory.__getitem__ Memory.__setitem__ Memory.__iter__ Memory.__eq__ Memory.cell Memory.put
+        Memory.grow Memory.add_cell Memory.add_byte Memory.text Memory.all_bytes Memory.copy Memory.of""",
+    "stores": """Store Store.__len__ Store.__getitem__ Store.__iter__ Store.__eq__ Store.copy Store.define Store.defer Store.act
+        Store.changed""",
+    "machine": """Machine Machine.stack Machine.feed Machine.step Machine.go Machine.give Machine.at Machine.view Machine.copy
+        Machine.moments ended Rooms Rooms.__enter__ Rooms.__exit__ within""",
+    "reading": """SIGNS is_line check_text Source Source.word Source.parse Source.rest Source.where Source.text Source.ended
+        Source.copy Source.joined words_of""",
+    "lists": """Lists Lists.new Lists.also Lists.previous Lists.begin Lists.__contains__ Lists.__iter__ Lists.__eq__ Lists.copy
+        find seen""",
+    "blocks": """Blocks Blocks.__getitem__ Blocks.__setitem__ Blocks.fill Blocks.text Blocks.__iter__ Blocks.__contains__
+        Blocks.__eq__ Blocks.cut""",
+    "system": "KERNEL Definition System System.find System.number_of System.__eq__ System.copy System.define System.defer",
+    "makers": "full_actions",
+    "session": """Outcome Outcome.__bool__ Session Session.stack Session.read Session.session Session.read_by
+        Session.reader_machine Session.demand Session.run Session.copy Session.of""",
+    "passes": """Named Named.spelled Pass Pass.__add__ Inline Inline.__call__ Fold Fold.__call__ Thread Thread.__call__ Trim
+        Trim.__call__ Tail Tail.__call__ settle""",
+    "stages": "is_staged staged steps_saved",
+    "code": "is_row is_source after_steps takes gives",
+    "caching": "made",
+}
+
+
+class Interface(unittest.TestCase):
+    def test_all_is_defined_in_its_file(self):
+        for module, names in INTERFACE.items():
+            defined = set()
+            for node in ast.parse(source_of(module + ".py")).body:
+                if isinstance(node, ast.Assign):
+                    defined.add(node.targets[0].id)
+                if isinstance(node, (ast.FunctionDef, ast.ClassDef)):
+                    defined.add(node.name)
+                if isinstance(node, ast.ClassDef):
+                    defined |= {f"{node.name}.{part.name}" for part in node.body if isinstance(part, ast.FunctionDef)}
+            self.assertEqual([name for name in names.split() if name not in defined], [], module)
+
+
 class Rules(unittest.TestCase):
     def test_forbidden_forms(self):
         for name, tree in trees():
@@ -275,7 +324,9 @@ class Rules(unittest.TestCase):
                         self.assertNotIn(word, imported | classes, name)
                 if isinstance(node, ast.Attribute):
                     self.assertNotIn(node.attr, NEVER, name)
-                    if node.attr != "__init__" or not isinstance(node.ctx, ast.Load):
+                    if node.attr in ("__class__", "__name__"):
+                        self.assertEqual(ast.unparse(node.value).partition(".")[0], "self", name)
+                    elif node.attr != "__init__" or not isinstance(node.ctx, ast.Load):
                         self.assertFalse(node.attr.startswith("__"), (name, node.attr))
                     if isinstance(node.ctx, ast.Store):
                         self.assertNotIn(node.attr, BUILTIN_ATTRIBUTES, name)
@@ -298,7 +349,7 @@ class Rules(unittest.TestCase):
                         self.assertIn(node.id, BUILTINS + ["property", "staticmethod", "classmethod"],
                                       (name, node.lineno))
                     if isinstance(node, ast.Call) and isinstance(node.func, ast.Attribute):
-                        self.assertIn(node.func.attr, METHODS + list(methods), (name, node.lineno))
+                        self.assertIn(node.func.attr, METHODS + CALLED + list(methods), (name, node.lineno))
 
     def test_errors(self):
         classes = own_classes()
@@ -310,6 +361,19 @@ class Rules(unittest.TestCase):
                 if isinstance(node, ast.Raise) and node.exc is not None:
                     self.assertIsInstance(node.exc, ast.Call, (name, node.lineno))
                     self.assertIn(node.exc.func.id, list(classes) + ["TypeError"], name)
+
+    def test_names_of_properties_and_static_methods(self):
+        plain, special, stored = set(), set(), set()
+        for name, tree in trees():
+            for node in ast.walk(tree):
+                if isinstance(node, ast.Attribute) and isinstance(node.ctx, ast.Store):
+                    stored.add(node.attr)
+            for part in [each for each in tree.body if isinstance(each, ast.ClassDef)]:
+                for node in part.body:
+                    if isinstance(node, ast.FunctionDef):
+                        (special if node.decorator_list else plain).add(node.name)
+        self.assertEqual(special & (plain | stored), set())
+        self.assertEqual(plain & stored, set())
 
     def test_classes(self):
         for name, tree in trees():

@@ -179,6 +179,12 @@ def own_code(walk):
     return None
 
 
+def least_row(words, body):
+    """The least row of a body to an exit that no recurse leads to, whatever is refused; None if there is none."""
+    code = own_code(Walk(words, body, None))
+    return None if code is None else row_of(code)
+
+
 def fault(walk, place, depth, held):
     """Which of the first seven refusals is met at a place, or an empty string."""
     op = walk.body[place][0]

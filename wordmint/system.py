@@ -58,7 +58,7 @@ class System(Store):
     """A store with the kernel words, lists, open definitions, the mark whether it is compiling, and a source."""
 
     def __init__(self, width):
-        Store.__init__(self, width)
+        super().__init__(width)
         self.words = kernel_words()
         self.lists = Lists()
         self.opened = []
