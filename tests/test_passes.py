@@ -127,6 +127,14 @@ class Inlining(Base):
         # 400 + 3 is too long; 400 stays 400; then too long again; then one shorter.
         self.assertEqual(Inline()(store, number, body), ops(head + "call#0 here drop call#0 exit"))
 
+    def test_many_calls_up_to_the_bound(self):
+        # Each call makes the body longer by three, or by one shorter.
+        store = store_of("here drop here drop exit", "exit")
+        body = ops("call#0 " * 100 + "exit")
+        self.assertEqual(Inline()(store, store.define(body), body), ops("here drop " * 198 + "call#0 exit"))
+        body = ops("call#0 " * 100 + "call#1 call#0 exit")
+        self.assertEqual(Inline()(store, store.define(body), body), ops("here drop " * 198 + "call#0 call#0 exit"))
+
     def test_bodies_that_are_too_long_ahead(self):
         store = store_of("exit")
         for length, fits in ((401, True), (402, False)):
@@ -229,6 +237,11 @@ class Folding(Base):
         self.becomes("lit#0 unless#5 ask unless#9 exit lit#1 unless#0 goto#8 goto#7 exit",
                      "lit#0 unless#5 ask unless#7 exit goto#6 goto#5 exit")
 
+    def test_the_row_that_is_left_stays(self):
+        # The first unless may lose the way that the least row goes; then the second one may not.
+        self.becomes("lit#0 unless#3 exit lit#0 unless#6 exit goto#6", "goto#2 exit lit#0 unless#5 exit goto#5")
+        self.becomes("lit#1 unless#6 lit#1 unless#5 exit goto#5 exit", "exit goto#1 exit")
+
     def test_words_without_a_row_on_the_way(self):
         self.becomes("lit#0 unless#3 exit call#0 exit", "lit#0 unless#3 exit call#0 exit", "goto#0")
         self.becomes("lit#0 unless#3 exit call#0 exit", "goto#2 exit call#0 exit", "ask throw exit")
@@ -258,6 +271,14 @@ class Folding(Base):
         self.becomes("lit#1 lit#2 + lit#5 unless#2 exit", "lit#3 exit")
         self.becomes("here drop here lit#3 drop lit#5 unless#4 drop exit", "here drop here drop exit")
         self.stays("swap swap ask unless#1 exit")
+
+    def test_landings_that_stay(self):
+        # The goto that an unless became leads where that one led; other unlesses lead there, too.
+        self.becomes("lit#0 unless#4 exit dup drop exit", "goto#3 exit dup drop exit")
+        self.becomes("swap swap lit#5 unless#1 ask unless#1 exit", "swap swap ask unless#1 exit")
+        self.becomes("lit#1 drop swap swap ask unless#3 exit", "swap swap ask unless#1 exit")
+        self.becomes("lit#1 drop lit#5 throw swap swap ask unless#0 exit", "lit#5 throw ask unless#0 exit")
+        self.becomes("lit#2 drop dup drop ask unless#3 lit#4 drop exit", "dup drop ask unless#1 exit")
 
     def test_a_new_landing(self):
         # A goto to what was dropped leads to the drop, which may not be taken with what stands ahead of it then.

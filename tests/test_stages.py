@@ -102,6 +102,14 @@ class Bodies(Case):
         self.assertEqual(told[1].verdict.row, (0,))
         self.assertEqual((store[2].verdict.frames, told[2].verdict.frames), (2, 1))
 
+    def test_verdicts_of_words_that_are_not_staged(self):
+        store = store_of("lit#0 throw exit", "call#0 " + "lit#1 " * 9 + "exit", "call#1 exit", "call#0 perform exit")
+        told = staged(store)
+        self.assertEqual([word.verdict.row for word in store], [(0,)] * 4)
+        self.assertEqual([word.verdict.row for word in told], [(), (), (), ()])
+        self.assertEqual([is_staged(word) for word in told], [True, False, False, False])
+        self.assertEqual([word.body for word in told][1:], [word.body for word in store][1:])
+
     def test_a_system_gives_a_system(self):
         system = system_of()
         copy = system.copy()
@@ -206,6 +214,12 @@ class Saved(Case):
         for number in (-1, 5, True, None):
             self.fails(NoWord, number, steps_saved, store, number)
         self.assertEqual(len(store.memory), 2)
+
+    def test_steps_if_none_are_told(self):
+        store = store_of("lit#3999 lit#-1 + dup 0= unless#1 drop here drop exit",
+                         "lit#3999 lit#-1 + dup 0= unless#1 drop here drop here drop exit")
+        self.assertEqual(steps_saved(store, 0), 0)
+        self.assertIsNone(steps_saved(store, 1))
 
     def test_with_a_stack(self):
         store = store_of("dup drop swap swap + exit")
