@@ -92,6 +92,22 @@ class Good(Case):
         for number in range(len(store)):
             rows = self.good(store, number, 2)
             self.assertLessEqual(len(rows), 4)
+        # Behind a call or a recurse that does not return comes a place to which only a goto leads.
+        number = store.define(ops("here unless#4 call#1 exit here drop exit"))
+        self.assertEqual([row[0] for row in self.good(store, number, 2)], ["do", "unless", "call", "do", "exit"])
+        number = store.define(ops("here unless#4 recurse exit here drop goto#0"), declared=(0, 0))
+        self.assertEqual([row[0] for row in self.good(store, number, 2)], ["do", "unless", "plain", "do", "goto"])
+
+    def test_no_row_too_many(self):
+        for text, registers, told in (
+                ("here unless#0 exit", 2, "do unless exit"), ("+ + exit", 2, "fill fill do fill do spill exit"),
+                (">r r@ r> + . exit", 2, "fill keep look back do do exit"), ("dup throw exit", 2, "fill throw spill exit"),
+                ("locals#2 local#1 set#0 exit", 2, "plain local set exit"), ("lit#0 throw exit", 2, "throw exit"),
+                ("goto#2 exit lit#5 goto#1", 2, "goto exit spill goto"),
+                ("here unless#4 lit#1 drop exit", 2, "do unless goto exit"),
+                ("rot exit", 2, "plain exit"), ("rot exit", 3, "fill fill fill spill spill spill exit")):
+            store = store_of(text)
+            self.assertEqual((text, " ".join([row[0] for row in self.good(store, 0, registers)])), (text, told))
 
     def test_the_store_stays(self):
         store = store_of("dup unless#0 exit")

@@ -50,6 +50,8 @@ class Rows(Case):
             sources = (REG, LIT)[:count]
             right, wrong = (3, -1) if leaves else (-1, 0)
             self.good(("do", op, sources, right))
+            if leaves:
+                self.good(("do", op, sources, 0))
             self.bad(("do", op, sources, wrong), ("do", op, sources + (REG,), right), ("do", op, list(sources), right),
                      ("do", op, sources), ("do", op, sources, 4), ("do", op, sources, -2), ("do", op, 0, right))
             if count:
@@ -137,6 +139,11 @@ class Steps(Case):
         for place, least in ((3, 1), (4, 1), (5, 2), (6, 2), (7, 3)):
             self.assertIsNone(after_steps(self.body, place, (LIT,) * (least - 1), place + 1))
             self.assertIsNotNone(after_steps(self.body, place, (LIT,) * least, place + 1))
+
+    def test_a_layout_that_is_too_short_on_the_way(self):
+        for place in (3, 4, 5, 6, 7):
+            self.assertIsNone(after_steps(self.body, place, (), 8))
+        self.assertIsNone(after_steps(ops("drop lit#1 exit"), 0, (), 2))
 
     def test_goals(self):
         self.assertEqual(after_steps(self.body, 4, (LIT,), 4), (LIT,))

@@ -87,8 +87,7 @@ class Coder:
             self.put_row(("fill", slot), self.place, (("reg", slot), *self.layout))
 
     def parted(self, count):
-        """The layout without the last so many items, and these."""
-        self.hold(count)
+        """The layout without the last so many items, which it has, and these."""
         base = len(self.layout) - count
         return (self.layout[:base], self.layout[base:])
 
@@ -151,6 +150,7 @@ class Coder:
             row = ("local", arg, slot) if op == "local" else ("back" if op == "r>" else "look", slot)
             self.put_row(row, self.place + 1, (*self.layout, ("reg", slot)))
             return True
+        self.hold(1)
         rest, taken = self.parted(1)
         source = taken[0]
         row = ("set", arg, source) if op == "set" else ("throw" if op == "throw" else "keep", source)
@@ -163,8 +163,8 @@ class Coder:
             self.spill_to(0)
             if self.entry != (place, ()):
                 self.put_row(("goto", place), place, ())
+        # Where the code does not lead on from, the layout is empty, too.
         self.place = place
-        self.layout = ()
         self.entry = (place, ())
         self.starts[place] = len(self.rows)
 
