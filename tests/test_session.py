@@ -82,7 +82,7 @@ class Kinds(Base):
         self.ends(session.read(["", "   "]), "done", steps=0)
         self.ends(session.read(("1 2", "3")), "done", steps=0)
         self.assertEqual(session.stack, (1, 2, 3))
-        self.ends(session.session(["drop"]), "done", steps=2)
+        self.ends(session(["drop"]), "done", steps=2)
         self.assertEqual(session.stack, (1, 2))
         self.assertIs(session.stack.__class__, tuple)
 
@@ -216,7 +216,7 @@ class Reading(Base):
         session = self.session("1")
         for lines, told in ((None, -1), ("1 2", -1), (["1"] * 201, -1), (["1", None], 1), (["1", "2", "a\tb"], 2),
                             (["x" * 201], 0), (["50%"], 0), ({}, -1)):
-            for call in (session.read, session.session, session.demand):
+            for call in (session.read, session, session.demand):
                 self.fails(BadText, told, call, lines)
         self.fails(BadText, 0, session.read, [None], feed=[None])
         self.assertEqual(session.stack, (1,))

@@ -32,6 +32,14 @@ def shape(op, arg):
     return (KINDS.get(op, ""), 0)
 
 
+def are_kinds(kinds, taken):
+    """Whether the items are of these kinds."""
+    for at, kind in enumerate(kinds):
+        if kind != "x" and isinstance(taken[at], tuple) != (kind == "t"):
+            return False
+    return True
+
+
 def leave_argument(machine, instruction, taken):
     """The acts lit, data."""
     return (instruction[1],)

@@ -1,11 +1,12 @@
 """The building acts that open, fill and close definitions."""
 
 from wordmint.definitions import (
-    add_row, close_quote, close_word, compile_item, compile_word, first_of, innermost, need_closed, need_rows,
+    add_row, close_quote, close_word, compile_item, compile_word, innermost, need_closed, need_rows,
     open_definition,
 )
 from wordmint.errors import Thrown
 from wordmint.forms import MOST_LOCALS
+from wordmint.kinds import first_of
 from wordmint.reading import is_name
 from wordmint.scanning import digits, found_word, new_name, said_effect
 from wordmint.system import Definition
@@ -167,7 +168,7 @@ def postpone(machine, instruction, taken):
     definition = innermost(system)
     number = found_word(system)
     if system.words[number].immediate:
-        op, arg = first_of(system, number)
+        op, arg = first_of(system.words, number)
         add_row(definition, op, arg)
         return ()
     need_rows(definition, 2)

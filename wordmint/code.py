@@ -16,6 +16,7 @@ PARTS = {
     "spill": "s", "fill": "r", "put": "rs", "throw": "s", "unless": "st", "goto": "t", "call": "w", "jump": "w",
     "exit": "", "keep": "s", "back": "r", "look": "r", "locals": "m", "local": "kr", "set": "ks",
 }
+ROW_OPS = {"keep": ">r", "back": "r>", "look": "r@"}
 CONTROL_OPS = ("goto", "unless", "exit", "call", "jump")
 OTHER_OPS = ("deferred", "forget")
 
@@ -124,6 +125,22 @@ def gives(row):
     return found[0] if found else NO_REGISTER
 
 
+def instruction_of(row):
+    """The instruction that a row does; 0 stands for the place of an unless, which only the body tells.
+
+    There is none for spill, fill, put and goto, which only move items or lead on.
+    """
+    if row[0] == "do":
+        return (row[1], 0)
+    if row[0] == "plain":
+        return (row[1], row[2])
+    if row[0] == "locals":
+        return ("locals", len(row[1]))
+    if row[0] in ("call", "jump", "local", "set"):
+        return (row[0], row[1])
+    return (ROW_OPS.get(row[0], row[0]), 0)
+
+
 def after_step(op, arg, layout):
     """The layout behind a layout step, or None if it has too few items."""
     if op in SOURCE_STEPS:
@@ -155,3 +172,12 @@ def after_steps(body, place, layout, goal):
             return None
         place += 1
     return layout
+
+
+def end_of_steps(body, place, layout):
+    """The first place from a place on that has no layout step, and the layout there; None if it has too few items."""
+    while is_step(body[place][0]) and layout is not None:
+        op, arg = body[place]
+        layout = after_step(op, arg, layout)
+        place += 1
+    return (place, layout)

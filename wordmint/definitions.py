@@ -1,14 +1,12 @@
 """Open definitions: what may be appended to them, and how they are closed."""
 
-from wordmint.effects import check
 from wordmint.errors import Thrown
-from wordmint.forms import Word
+from wordmint.kinds import EXIT, NO_HOME, bodied_word, first_of
 from wordmint.stores import MOST_WORDS, add_word
 
 # The last exit is not among the rows of an open definition, but its room is kept.
 MOST_ROWS = 119
 MOST_OPEN = 4
-EXIT = ("exit", 0)
 
 
 def innermost(system):
@@ -42,16 +40,10 @@ def add_row(definition, op, arg):
     definition.rows.append((op, arg))
 
 
-def first_of(system, number):
-    """The instruction that stands for a word: that of a kernel word, or a call."""
-    word = system.words[number]
-    return word.body[0] if word.kind == "kernel" else ("call", number)
-
-
 def compile_word(system, number):
     """Compiles a word into the innermost open definition."""
     definition = innermost(system)
-    op, arg = first_of(system, number)
+    op, arg = first_of(system.words, number)
     add_row(definition, op, arg)
 
 
@@ -74,8 +66,7 @@ def open_definition(system, definition):
 def closed_word(system, definition, kind, home):
     """The word that the definition becomes when it is closed."""
     body = (*definition.rows, EXIT)
-    verdict = check(system.words, body, definition.declared)
-    return Word(definition.name, home, kind, False, body, definition.declared, verdict)
+    return bodied_word(system.words, kind, definition.name, home, False, body, definition.declared)
 
 
 def close_word(system):
@@ -101,5 +92,5 @@ def close_quote(system):
     outer = system.opened[-2]
     need_rows(outer, 1)
     outer.rows.append(("token", len(system.words)))
-    add_word(system, closed_word(system, definition, "quote", -1))
+    add_word(system, closed_word(system, definition, "quote", NO_HOME))
     system.opened.pop()

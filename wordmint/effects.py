@@ -361,3 +361,9 @@ def standings(words, body, declared=None):
             rows[code] = row_of(code)
         told.append((place, depth, held, rows[code]))
     return told
+
+
+def depths(words, body, declared=None):
+    """The depth at each place that the walk comes to ahead of a refusal, as it came to it first."""
+    walk, _ = walked(words, body, declared)
+    return {place: walk.firsts[place][1] for place in walk.firsts}

@@ -11,14 +11,19 @@ class Halt(Exception):
 
 
 class Frame:
-    """A word that is being run: its number, the place, own items, locals, and what is kept for a catch, or None."""
+    """A word that is being run: its number, the place, own items, locals, and what is kept for a catch, or None.
 
-    def __init__(self, number, kept=None):
+    In an engine a frame may run by code: then the place is that of a row, and the cache tells what registers hold.
+    """
+
+    def __init__(self, number, kept=None, code=None):
         self.number = number
         self.place = 0
         self.own = []
         self.locals = []
         self.kept = kept
+        self.code = code
+        self.cache = {}
 
     def view(self):
         """The frame as a tuple."""
@@ -26,10 +31,11 @@ class Frame:
 
     def copy(self):
         """A frame like this one that goes its own way."""
-        other = Frame(self.number, self.kept)
+        other = Frame(self.number, self.kept, self.code)
         other.place = self.place
         other.own = list(self.own)
         other.locals = list(self.locals)
+        other.cache = dict(self.cache)
         return other
 
     def need_no_own(self):
@@ -37,8 +43,19 @@ class Frame:
         if self.own:
             raise Thrown(-3)
 
-    def become(self, number):
+    def run_body(self):
+        """Runs by the body from now on."""
+        self.code = None
+        self.cache = {}
+
+    def forget_registers(self):
+        """Registers hold nothing from now on."""
+        self.cache = {}
+
+    def become(self, number, code):
         """Goes on as a word at its first place; what is kept stays."""
         self.number = number
         self.place = 0
         self.locals = []
+        self.code = code
+        self.cache = {}

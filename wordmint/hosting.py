@@ -9,24 +9,20 @@ from wordmint.scanning import LOCAL, NUMBER, WORD, looked_up
 
 
 class Reading:
-    """A system that a text is read into, with the stack, what is left of the feed and of the steps, and the output.
+    """A system that a text is read into, with a machine that runs its words on one stack, one after the other.
 
     The kind stays empty as long as nothing ended the reading.
     """
 
-    def __init__(self, system, pile, given, left, data, frames):
+    def __init__(self, system, pile, given, most, data, frames):
         self.system = system
-        self.pile = list(pile)
-        self.given = list(given)
-        self.left = left
-        self.data = data
-        self.frames = frames
+        # The words that are read tell what the machine runs; the first one stands there till then.
+        self.machine = Machine(system, 0, stack=pile, feed=given, actions=full_actions(), data=data, frames=frames)
+        self.most = most
         self.kind = ""
         self.number = 0
         self.line = 0
         self.column = 0
-        self.output = ""
-        self.steps = 0
 
     def end(self, kind, number):
         """Ends the reading."""
@@ -34,15 +30,10 @@ class Reading:
         self.number = number
 
     def run_word(self, number):
-        """Runs a word on the stack, with the feed and the steps that are left."""
-        machine = Machine(self.system, number, stack=self.pile, feed=self.given, actions=full_actions(),
-                          data=self.data, frames=self.frames)
-        machine.go(self.left)
-        self.output += machine.output
-        self.steps += machine.steps
-        self.left -= machine.steps
-        self.pile = list(machine.stack)
-        self.given = list(machine.feed)
+        """Runs a word with the steps that are left."""
+        machine = self.machine
+        machine.start(number)
+        machine.go(self.most - machine.steps)
         if machine.kind == "runs":
             self.end("steps", 0)
         elif machine.kind != "done":
@@ -58,10 +49,8 @@ class Reading:
         """Leaves an item on the stack, or appends it as a literal while compiling."""
         if self.system.compiling:
             compile_item(self.system, item)
-        elif len(self.pile) >= self.data:
+        elif not self.machine.take(item):
             self.end("over", 0)
-        else:
-            self.pile.append(item)
 
     def take_word(self):
         """Does what the caught word is there for; throws an error if there is nothing."""

@@ -10,10 +10,10 @@ LONGEST_ORDER = 8
 class Lists:
     """How many lists there are, the order in which they are searched, and the list that new words come into."""
 
-    def __init__(self):
-        self.count = 2
-        self.order = (1, 0)
-        self.into = 1
+    def __init__(self, count=2, order=(1, 0), into=1):
+        self.count = count
+        self.order = order
+        self.into = into
 
     def need_list(self, number):
         """Raises NoList unless there is a list with this number."""
@@ -57,11 +57,7 @@ class Lists:
 
     def copy(self):
         """Lists like these that go their own way."""
-        other = Lists()
-        other.count = self.count
-        other.order = self.order
-        other.into = self.into
-        return other
+        return Lists(self.count, self.order, self.into)
 
 
 def find(words, order, name):
@@ -69,11 +65,7 @@ def find(words, order, name):
     if name == "":
         return None
     # For each list the greatest number of a word of this name.
-    found = {}
-    for number in range(len(words) - 1, -1, -1):
-        word = words[number]
-        if word.name == name and word.home not in found:
-            found[word.home] = number
+    found = {words[number].home: number for number in [at for at, word in enumerate(words) if word.name == name]}
     for home in order:
         if home in found:
             return found[home]

@@ -1,6 +1,6 @@
 """The machine: it runs a word of a store, one instruction at a step."""
 
-from wordmint.acts import ACTS, shape
+from wordmint.acts import ACTS, are_kinds, shape
 from wordmint.cells import check_number, is_between, is_number
 from wordmint.errors import BadItem, BadRoom, Thrown
 from wordmint.frames import Frame, Halt
@@ -27,36 +27,70 @@ def check_rooms(data, frames, length):
         raise BadRoom(frames)
 
 
-def are_kinds(kinds, taken):
-    """Whether the items are of these kinds."""
-    for at, kind in enumerate(kinds):
-        if kind != "x" and isinstance(taken[at], tuple) != (kind == "t"):
-            return False
-    return True
+def check_run(store, number, stack, feed):
+    """Raises NoWord, BadItem or BadNumber unless a run of the word may begin with this stack and this feed."""
+    need_word(store, number)
+    for item in stack:
+        if not is_item(store, item):
+            raise BadItem(item)
+    for given in feed:
+        check_number(store.width, given)
 
 
 class Machine:
-    """A run of a word: a stack, a feed, an output and frames."""
+    """A run of a word: a stack, a feed, an output and frames.
 
-    def __init__(self, store, number, *, stack=(), feed=(), actions=None, data=64, frames=48):
-        need_word(store, number)
-        for item in stack:
-            if not is_item(store, item):
-                raise BadItem(item)
-        for given in feed:
-            check_number(store.width, given)
-        check_rooms(data, frames, len(stack))
+    A machine that is made like another one stands where that one stands; number, stack and feed do not count then.
+    """
+
+    def __init__(self, store, number, *, stack=(), feed=(), actions=None, data=64, frames=48, like=None):
+        if like is None:
+            check_run(store, number, stack, feed)
+            check_rooms(data, frames, len(stack))
         self.store = store
         self.actions = actions
-        self.kind = "runs"
-        self.number = 0
-        self.steps = 0
-        self.output = ""
         self.data = data
         self.frames = frames
-        self.pile = list(stack)
-        self.given = list(feed)
-        self.calls = [Frame(number)]
+        if like is None:
+            self.kind = "runs"
+            self.number = 0
+            self.steps = 0
+            self.output = ""
+            self.pile = list(stack)
+            self.given = list(feed)
+            self.calls = [self.new_frame(number, None)]
+        else:
+            self.stand_as(like)
+
+    def stand_as(self, other):
+        """Stands where another machine stands; store, actions and rooms stay."""
+        self.kind = other.kind
+        self.number = other.number
+        self.steps = other.steps
+        self.output = other.output
+        self.pile = list(other.pile)
+        self.given = list(other.given)
+        self.calls = [frame.copy() for frame in other.calls]
+
+    def start(self, number):
+        """Begins to run a word with what is there, whatever ran until now."""
+        self.kind = "runs"
+        self.calls = [self.new_frame(number, None)]
+
+    def take(self, item):
+        """Leaves an item on the stack; whether there was room."""
+        if len(self.pile) >= self.data:
+            return False
+        self.pile.append(item)
+        return True
+
+    def code_for(self, number):
+        """The code by which a frame of the word runs, or None if it runs by the body, as all frames do here."""
+        return None
+
+    def new_frame(self, number, kept):
+        """A frame in which a word begins."""
+        return Frame(number, kept, self.code_for(number))
 
     @property
     def stack(self):
@@ -72,9 +106,8 @@ class Machine:
         """Does one instruction, if the machine runs; its kind."""
         if self.kind != "runs":
             return self.kind
-        frame = self.calls[-1]
         try:
-            self.do(frame, self.store.words[frame.number].body[frame.place])
+            self.do_next(self.calls[-1])
         except Halt as halt:
             self.kind = halt.kind
             return self.kind
@@ -83,25 +116,34 @@ class Machine:
         self.steps += 1
         return self.kind
 
+    def do_next(self, frame):
+        """Does what is next in the last frame; throws or halts if it cannot be done."""
+        self.do(frame, self.store.words[frame.number].body[frame.place])
+
     def do(self, frame, instruction):
-        """Does an instruction of the last frame; throws or halts if it cannot be done."""
+        """Does an instruction in the last frame; throws or halts if it cannot be done."""
         op, arg = instruction
         move = MOVES.get(op)
+        kinds, leaves = shape(op, arg)
+        if move is not None:
+            self.due(kinds, leaves)
+            move(self, frame, arg)
+            return
+        act = self.act_for(op)
+        taken = self.due(kinds, leaves)
+        left = act(self, instruction, taken)
+        base = len(self.pile) - len(taken)
+        self.pile[base:] = left
+        frame.place += 1
+
+    def act_for(self, op):
+        """What does an op that is no move; a machine without building acts throws an error for each of these."""
         act = ACTS.get(op)
-        if move is None and act is None:
-            # The error is due ahead of all looks at the stack.
+        if act is None:
             if self.actions is None:
                 raise Thrown(-11)
             act = self.actions[op]
-        kinds, leaves = shape(op, arg)
-        taken = self.due(kinds, leaves)
-        if move is not None:
-            move(self, frame, arg)
-            return
-        base = len(self.pile) - len(taken)
-        left = act(self, instruction, taken)
-        self.pile[base:] = left
-        frame.place += 1
+        return act
 
     def due(self, kinds, leaves):
         """The items that an instruction takes; throws or halts if they, or the room for more, are not there."""
@@ -154,15 +196,7 @@ class Machine:
 
     def copy(self):
         """A machine at the same moment, with a copy of the store, that goes its own way."""
-        other = Machine(self.store.copy(), 0, actions=self.actions, data=self.data, frames=self.frames)
-        other.kind = self.kind
-        other.number = self.number
-        other.steps = self.steps
-        other.output = self.output
-        other.pile = list(self.pile)
-        other.given = list(self.given)
-        other.calls = [frame.copy() for frame in self.calls]
-        return other
+        return Machine(self.store.copy(), 0, actions=self.actions, data=self.data, frames=self.frames, like=self)
 
     def moments(self, steps):
         """Yields the word and place and then does a step, at most so many times, as long as the machine runs."""

@@ -14,27 +14,28 @@ def check_byte(thing):
         raise BadByte(thing)
 
 
-class Memory:
-    """A row of bytes that is never shorter than one cell nor longer than 2048 bytes."""
+def check_length(width, length):
+    """Raises NoRoom unless a memory may have this length."""
+    if length < width // 8 or length > LONGEST:
+        raise NoRoom(length)
 
-    def __init__(self, width):
+
+class Memory:
+    """A row of bytes, never shorter than one cell nor longer than 2048 bytes; the row may be told at the beginning."""
+
+    def __init__(self, width, *, row=None):
         check_width(width)
         self.width = width
-        self._row = list(bytes_of(width, FIRST_BASE))
+        self._row = list(bytes_of(width, FIRST_BASE) if row is None else row)
 
     @classmethod
     def of(cls, width, row):
         """A memory of these bytes."""
-        memory = cls(width)
+        check_width(width)
         for byte in row:
             check_byte(byte)
-        memory.check_length(len(row))
-        memory.put_all(row)
-        return memory
-
-    def put_all(self, row):
-        """Takes these bytes, which are known to be good, for those that were there."""
-        self._row = list(row)
+        check_length(width, len(row))
+        return cls(width, row=row)
 
     def __len__(self):
         return len(self._row)
@@ -59,11 +60,6 @@ class Memory:
         if not is_between(address, 0, len(self._row) - count):
             raise BadAddress(address)
 
-    def check_length(self, length):
-        """Raises NoRoom unless the memory may have this length."""
-        if length < self.width // 8 or length > LONGEST:
-            raise NoRoom(length)
-
     def cell(self, address):
         """The number in the cell at the address."""
         size = self.width // 8
@@ -82,19 +78,19 @@ class Memory:
         if not is_integer(count):
             raise BadNumber(count)
         length = len(self._row) + count
-        self.check_length(length)
+        check_length(self.width, length)
         self._row = self._row[:length] + [0] * max(0, count)
 
     def add_cell(self, number):
         """Appends a cell with this number."""
         check_number(self.width, number)
-        self.check_length(len(self._row) + self.width // 8)
+        check_length(self.width, len(self._row) + self.width // 8)
         self._row.extend(bytes_of(self.width, number))
 
     def add_byte(self, byte):
         """Appends a byte."""
         check_byte(byte)
-        self.check_length(len(self._row) + 1)
+        check_length(self.width, len(self._row) + 1)
         self._row.append(byte)
 
     def text(self, address, count):
@@ -118,6 +114,4 @@ class Memory:
 
     def copy(self):
         """A memory of the same bytes that goes its own way."""
-        other = Memory(self.width)
-        other.put_all(self._row)
-        return other
+        return Memory(self.width, row=self._row)

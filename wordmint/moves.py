@@ -6,14 +6,14 @@ them off itself. It throws or halts before it changes anything.
 
 from wordmint.errors import Thrown, Unfit
 from wordmint.forms import fits
-from wordmint.frames import Frame, Halt
+from wordmint.frames import Halt
 
 
 def begin(machine, number, kept):
     """Begins a frame of a word."""
     if len(machine.calls) >= machine.frames:
         raise Halt("deep")
-    machine.calls.append(Frame(number, kept))
+    machine.calls.append(machine.new_frame(number, kept))
 
 
 def top_word(machine, wanted):
@@ -50,7 +50,7 @@ def call_itself(machine, frame, arg):
 def jump(machine, frame, arg):
     """The move jump."""
     frame.need_no_own()
-    frame.become(arg)
+    frame.become(arg, machine.code_for(arg))
 
 
 def end(machine, frame, arg):
@@ -99,7 +99,7 @@ def do_action(machine, frame, arg):
     action = machine.store.words[frame.number].action
     if action is None:
         raise Thrown(-9)
-    frame.become(action)
+    frame.become(action, machine.code_for(action))
 
 
 MOVES = {

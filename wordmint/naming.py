@@ -1,15 +1,12 @@
 """The building acts that make named words outside of definitions, those of lists, and what markers do."""
 
-from wordmint.definitions import first_of, need_closed, need_words
-from wordmint.effects import check
+from wordmint.definitions import need_closed, need_words
 from wordmint.errors import LastList, NoList, Thrown, TooMany
-from wordmint.forms import Word
+from wordmint.kinds import acting, deferred_word, made_word, marker_word, now
 from wordmint.lists import Lists
 from wordmint.memory import Memory
 from wordmint.scanning import digits, new_name
-from wordmint.stores import DEFERRED_BODY, acting, add_word
-
-MARKER_BODY = (("forget", 0), ("exit", 0))
+from wordmint.stores import add_word
 
 
 def youngest_named(words):
@@ -28,8 +25,7 @@ def make_immediate(machine, instruction, taken):
     word = system.words[number]
     if word.kind == "kernel":
         raise Thrown(-11)
-    system.words[number] = Word(word.name, word.home, word.kind, True, word.body, word.declared, word.verdict,
-                                address=word.address, behaviour=word.behaviour, action=word.action, keeps=word.keeps)
+    system.words[number] = now(word)
     return ()
 
 
@@ -39,10 +35,7 @@ def create(machine, instruction, taken):
     need_closed(system)
     name = new_name(system)
     need_words(system)
-    address = len(system.memory)
-    body = (("data", address), ("exit", 0))
-    verdict = check(system.words, body)
-    add_word(system, Word(name, system.lists.into, "made", False, body, None, verdict, address=address))
+    add_word(system, made_word(system.words, name, system.lists.into, False, len(system.memory), None))
     return ()
 
 
@@ -57,10 +50,7 @@ def behave(machine, instruction, taken):
         raise Thrown(-11)
     if any([other.action == number for other in system.words]):
         raise Thrown(-19)
-    body = (word.body[0], first_of(system, behaviour), ("exit", 0))
-    verdict = check(system.words[:number], body)
-    system.words[number] = Word(word.name, word.home, word.kind, word.immediate, body, None, verdict,
-                                address=word.address, behaviour=behaviour)
+    system.words[number] = made_word(system.words, word.name, word.home, word.immediate, word.address, behaviour)
     return ()
 
 
@@ -71,8 +61,7 @@ def defer(machine, instruction, taken):
     name = new_name(system)
     declared = tuple(digits(system, 2))
     need_words(system)
-    verdict = check(system.words, DEFERRED_BODY, declared)
-    add_word(system, Word(name, system.lists.into, "deferred", False, DEFERRED_BODY, declared, verdict))
+    add_word(system, deferred_word(system.words, name, system.lists.into, False, declared, None))
     return ()
 
 
@@ -85,8 +74,7 @@ def make_marker(machine, instruction, taken):
     lists = system.lists
     actions = tuple([word.action for word in system.words if word.kind == "deferred"])
     keeps = (lists.count, lists.order, lists.into, system.memory.all_bytes(), actions)
-    verdict = check(system.words, MARKER_BODY)
-    add_word(system, Word(name, lists.into, "marker", False, MARKER_BODY, None, verdict, keeps=keeps))
+    add_word(system, marker_word(system.words, name, lists.into, False, keeps))
     return ()
 
 
@@ -108,17 +96,13 @@ def need_free(machine, number):
 def put_back(system, number):
     """Makes the system what it was ahead of the marker with this number."""
     count, order, into, row, actions = system.words[number].keeps
-    words = system.words[:number]
+    words = list(system.words[:number])
     deferred = [place for place, word in enumerate(words) if word.kind == "deferred"]
     for place, action in zip(deferred, actions):
         words[place] = acting(words[place], action)
     system.words = words
     system.memory = Memory.of(system.width, row)
-    lists = Lists()
-    lists.count = count
-    lists.order = order
-    lists.into = into
-    system.lists = lists
+    system.lists = Lists(count, order, into)
 
 
 def forget(machine, instruction, taken):

@@ -3,6 +3,7 @@
 from wordmint.effects import least_row, standings
 from wordmint.folding import folded, returns
 from wordmint.forms import PLACE_OPS
+from wordmint.kinds import EXIT
 from wordmint.opening import places_of
 from wordmint.stores import need_word
 
@@ -11,7 +12,6 @@ LONGEST_SMALL = 7
 SMALL_KINDS = ("plain", "quote", "made")
 LARGE_OPS = ("goto", "unless", "recurse", "jump", "locals")
 MOST_TURNS = 400
-EXIT = ("exit", 0)
 
 
 def assembled(parts):

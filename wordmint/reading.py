@@ -20,7 +20,7 @@ def printed(code):
 
 def has_signs_alone(text):
     """Whether every character of a string is a sign."""
-    return all([sign in SIGNS for sign in text])
+    return text.isascii() and text.isprintable() and text.translate({37: None}) == text
 
 
 def is_line(thing):
@@ -57,24 +57,28 @@ class Source:
         column = self.column
         while line < len(self._lines):
             text = self._lines[line]
-            left = text[column:].lstrip(" ")
-            if left != "":
-                return (line, len(text) - len(left))
+            left = len(text[column:].lstrip(" "))
+            if left > 0:
+                return (line, len(text) - left)
             line += 1
             column = 0
         return (line, 0)
 
-    def peek(self):
-        """The next word, which is not read; an empty string if none is left."""
-        line, column = self.start()
+    def _word_at(self, line, column):
+        """The word that begins there; an empty string behind the last line."""
         if line == len(self._lines):
             return ""
         return self._lines[line][column:].partition(" ")[0]
 
+    def peek(self):
+        """The next word, which is not read; an empty string if none is left."""
+        line, column = self.start()
+        return self._word_at(line, column)
+
     def word(self):
         """Reads the next word; an empty string if none is left."""
-        word = self.peek()
         self.line, self.column = self.start()
+        word = self._word_at(self.line, self.column)
         if word != "":
             self.column = min(self.column + len(word) + 1, len(self._lines[self.line]))
         return word

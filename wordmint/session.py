@@ -25,22 +25,20 @@ class Outcome:
 
 
 class Session:
-    """A system, a stack, and the rooms of the machines."""
+    """A system, a stack, and the rooms of the machines; the first two may be told at the beginning."""
 
-    def __init__(self, width, *, data=64, frames=48):
+    def __init__(self, width, *, data=64, frames=48, system=None, pile=()):
         check_width(width)
         check_rooms(data, frames, 0)
-        self.system = System(width)
+        self.system = System(width) if system is None else system
         self.data = data
         self.frames = frames
-        self.pile = ()
+        self.pile = pile
 
     @classmethod
     def of(cls, system):
         """A session with a copy of a system and an empty stack."""
-        session = cls(system.width)
-        session.system = system.copy()
-        return session
+        return cls(system.width, system=system.copy())
 
     @property
     def stack(self):
@@ -49,10 +47,7 @@ class Session:
 
     def copy(self):
         """A session like this one that goes its own way."""
-        other = Session(self.system.width, data=self.data, frames=self.frames)
-        other.system = self.system.copy()
-        other.pile = self.pile
-        return other
+        return Session(self.system.width, data=self.data, frames=self.frames, system=self.system.copy(), pile=self.pile)
 
     def check_feed(self, feed):
         """Raises BadNumber of the first in the feed that is no number."""
@@ -69,11 +64,12 @@ class Session:
         column = None
         if reading.kind == "done":
             self.system = reading.system
-            self.pile = tuple(reading.pile)
+            self.pile = reading.machine.stack
         elif by_host:
             line = reading.line
             column = reading.column
-        return Outcome(reading.kind, reading.number, line, column, reading.output, reading.steps)
+        machine = reading.machine
+        return Outcome(reading.kind, reading.number, line, column, machine.output, machine.steps)
 
     def read(self, lines, *, feed=(), steps=20000):
         """Reads a text; the outcome."""
@@ -83,7 +79,7 @@ class Session:
         reading.read(text)
         return self.ended(reading, True)
 
-    def session(self, lines):
+    def __call__(self, lines):
         """Reads a text; the outcome."""
         return self.read(lines)
 

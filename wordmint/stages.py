@@ -1,9 +1,10 @@
 """Staging: the words that are let by get shorter bodies."""
 
 from wordmint.forms import is_effect
+from wordmint.kinds import checked
 from wordmint.machine import ended
 from wordmint.passes import Fold, Inline, Tail, Thread, Trim, settle
-from wordmint.stores import checked, need_word
+from wordmint.stores import need_word
 
 STAGED_KINDS = ("plain", "quote")
 

@@ -1,15 +1,13 @@
 """Stores: the words of a program, with their memory."""
 
 from wordmint.cells import check_width, is_between
-from wordmint.effects import check
 from wordmint.errors import BadEffect, BadName, NoWord, TooMany, Unfit
-from wordmint.forms import Word, check_body, fits, is_effect
+from wordmint.forms import check_body, fits, is_effect
+from wordmint.kinds import NO_HOME, acting, bodied_word, checked, deferred_word
 from wordmint.memory import Memory
 from wordmint.reading import is_name
 
 MOST_WORDS = 400
-NO_HOME = -1
-DEFERRED_BODY = (("deferred", 0), ("exit", 0))
 
 
 def is_word(store, number):
@@ -39,18 +37,6 @@ def check_new(store, name):
         raise BadName(name)
 
 
-def acting(word, action):
-    """A deferred word like this one, with this action."""
-    return Word(word.name, word.home, word.kind, word.immediate, word.body, word.declared, word.verdict,
-                action=action)
-
-
-def checked(words, word, body, declared):
-    """A word like this one, with this body and this declared effect, checked over older words."""
-    return Word(word.name, word.home, word.kind, word.immediate, body, declared, check(words, body, declared),
-                address=word.address, behaviour=word.behaviour, action=word.action, keeps=word.keeps)
-
-
 def add_word(store, word):
     """Adds a word at the end of the store; its number."""
     store.words.append(word)
@@ -63,8 +49,7 @@ def add_plain(store, home, body, name, declared, immediate):
     if declared is not None and not is_effect(declared):
         raise BadEffect(declared)
     check_body(store.width, body, len(store.words))
-    verdict = check(store.words, body, declared)
-    return add_word(store, Word(name, home, "plain", immediate, body, declared, verdict))
+    return add_word(store, bodied_word(store.words, "plain", name, home, immediate, body, declared))
 
 
 def add_deferred(store, home, declared, name, action):
@@ -73,8 +58,7 @@ def add_deferred(store, home, declared, name, action):
     if not is_effect(declared):
         raise BadEffect(declared)
     need_fit(store, action, declared)
-    verdict = check(store.words, DEFERRED_BODY, declared)
-    return add_word(store, Word(name, home, "deferred", False, DEFERRED_BODY, declared, verdict, action=action))
+    return add_word(store, deferred_word(store.words, name, home, False, declared, action))
 
 
 def are_alike(one, other):
@@ -84,13 +68,16 @@ def are_alike(one, other):
 
 
 class Store:
-    """A width, a memory, and words, which are checked when they are added."""
+    """A width, a memory, and words, which are checked when they are added.
 
-    def __init__(self, width):
+    A store that is made like another one begins with copies of what that one has.
+    """
+
+    def __init__(self, width, *, like=None):
         check_width(width)
         self.width = width
-        self.memory = Memory(width)
-        self.words = []
+        self.memory = Memory(width) if like is None else like.memory.copy()
+        self.words = [] if like is None else list(like.words)
 
     def __len__(self):
         return len(self.words)
@@ -107,10 +94,7 @@ class Store:
 
     def copy(self):
         """A store of the same words that goes its own way."""
-        other = Store(self.width)
-        other.memory = self.memory.copy()
-        other.words = list(self.words)
-        return other
+        return Store(self.width, like=self)
 
     def define(self, body, *, name="", declared=None, immediate=False):
         """Adds a plain word; its number."""
@@ -137,12 +121,12 @@ class Store:
         if word.kind not in ("plain", "quote") or not is_effect(effect):
             raise Unfit(number)
         check_body(self.width, body, number)
-        fresh = self.words[:number]
+        fresh = list(self.words[:number])
         fresh.append(checked(fresh, word, body, effect))
         if fresh[number].effect is None:
             raise Unfit(number)
         # Words refer to older ones alone, so only the younger words can have another verdict now.
-        for younger in self.words[number + 1:]:
+        for younger in list(self.words[number + 1:]):
             fresh.append(checked(fresh, younger, younger.body, younger.declared))
         other = self.copy()
         other.words = fresh

@@ -1,7 +1,7 @@
 """Systems: stores with the kernel words, lists, open definitions, and what is being read."""
 
 from wordmint.effects import check
-from wordmint.errors import Unknown
+from wordmint.errors import StillOpen, Unknown
 from wordmint.forms import Word
 from wordmint.lists import Lists, find
 from wordmint.reading import Source
@@ -57,14 +57,21 @@ class Definition:
 class System(Store):
     """A store with the kernel words, lists, open definitions, the mark whether it is compiling, and a source."""
 
-    def __init__(self, width):
-        super().__init__(width)
-        self.words = kernel_words()
-        self.lists = Lists()
-        self.opened = []
-        self.compiling = False
-        self.source = Source(())
-        self.caught = ""
+    def __init__(self, width, *, like=None):
+        super().__init__(width, like=like)
+        if like is None:
+            self.words = kernel_words()
+            self.lists = Lists()
+            self.opened = []
+            self.compiling = False
+            self.source = Source(())
+            self.caught = ""
+        else:
+            self.lists = like.lists.copy()
+            self.opened = [definition.copy() for definition in like.opened]
+            self.compiling = like.compiling
+            self.source = like.source.copy()
+            self.caught = like.caught
 
     def find(self, name):
         """The number of the word that is found by this name, or None."""
@@ -85,15 +92,7 @@ class System(Store):
 
     def copy(self):
         """A system of the same words that goes its own way."""
-        other = System(self.width)
-        other.memory = self.memory.copy()
-        other.words = list(self.words)
-        other.lists = self.lists.copy()
-        other.opened = [definition.copy() for definition in self.opened]
-        other.compiling = self.compiling
-        other.source = self.source.copy()
-        other.caught = self.caught
-        return other
+        return System(self.width, like=self)
 
     def define(self, body, *, name="", declared=None, immediate=False):
         """Adds a plain word to the list for new words; its number."""
@@ -102,3 +101,9 @@ class System(Store):
     def defer(self, declared, *, name="", action=None):
         """Adds a deferred word to the list for new words; its number."""
         return add_deferred(self, self.lists.into, declared, name, action)
+
+
+def need_nothing_open(store):
+    """Raises StillOpen with the outermost open definition, if it is a system that has one."""
+    if isinstance(store, System) and store.opened:
+        raise StillOpen(store.opened[0].name)
