@@ -1,9 +1,11 @@
-"""The worked examples of the document, as far as they have landed."""
+"""The worked examples of the document."""
 
 import unittest
 
-from wordmint.machine import ended
+from wordmint.machine import Machine, ended
+from wordmint.saving import save
 from wordmint.session import Session
+from wordmint.stepping import Tracer
 from wordmint.stores import Store
 
 
@@ -37,6 +39,18 @@ class Examples(unittest.TestCase):
         session = Session(16)
         session.read([": constant create , [: @ ;] behave ;", "5 constant five", "five five +"])
         self.assertEqual(session.stack, (10,))
+
+    def test_an_image(self):
+        store = Store(16)
+        store.define((("dup", 0), ("*", 0), ("exit", 0)), name="sq")
+        self.assertEqual(save(store), ["store 16", "bytes 0a00", "plain =sq -1 later - dup * exit", "end"])
+
+    def test_a_tracer(self):
+        store = Store(16)
+        store.define((("dup", 0), ("*", 0), ("exit", 0)))
+        tracer = Tracer(Machine(store, 0, stack=(3,)))
+        self.assertEqual([tracer.step(), tracer.step(), tracer.back()],
+                         [("reached", 1, 0, 1), ("reached", 2, 0, 2), ("reached", 1, 0, 1)])
 
 
 if __name__ == "__main__":

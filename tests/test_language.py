@@ -15,7 +15,7 @@ BUILTINS = """len range enumerate zip min max sum abs sorted reversed int str bo
 METHODS = """append clear copy count endswith extend find get index insert isalnum isalpha isdigit islower isspace isupper
     items join keys ljust lower lstrip partition pop remove replace reverse rfind rjust rpartition rsplit rstrip
     setdefault split splitlines startswith strip update upper values zfill bit_length title capitalize swapcase casefold
-    center expandtabs removeprefix removesuffix rindex isascii isdecimal add discard""".split()
+    center expandtabs removeprefix removesuffix rindex isascii isdecimal isprintable translate add discard""".split()
 # Attributes that hold objects which are called.
 CALLED = ["earlier", "later"]
 DUNDERS = """__init__ __eq__ __repr__ __str__ __len__ __enter__ __exit__ __call__ __iter__ __lt__ __le__ __gt__ __ge__ __ne__
@@ -114,6 +114,71 @@ def changed_names(nodes):
             told.add(last_name(node))
         if isinstance(node, (ast.Attribute, ast.Name)) and isinstance(node.ctx, (ast.Store, ast.Del)):
             told.add(last_name(node))
+    return told
+
+
+def without_index(node):
+    """What an expression is an item or a part of, or itself."""
+    while isinstance(node, ast.Subscript):
+        node = node.value
+    return node
+
+
+def loops_of(function):
+    """For each loop and comprehension: what it walks, what it does in each turn, and its line."""
+    told = []
+    for node in ast.walk(function):
+        if isinstance(node, ast.For):
+            told.append(([node.iter], node.body, node.lineno))
+        if isinstance(node, (ast.ListComp, ast.DictComp, ast.SetComp, ast.GeneratorExp)):
+            parts = [part for part in ast.iter_child_nodes(node) if not isinstance(part, ast.comprehension)]
+            told.append(([part.iter for part in node.generators], parts, node.lineno))
+    return told
+
+
+def attributes_of(node, origins):
+    """The attributes that an expression is, is a part of, or chooses from, also by way of local names."""
+    if isinstance(node, ast.Call):
+        if isinstance(node.func, ast.Attribute) and node.func.attr in ("items", "keys", "values"):
+            return attributes_of(node.func.value, origins)
+        if isinstance(node.func, ast.Name) and node.func.id in ("enumerate", "zip", "reversed"):
+            return {name for arg in node.args for name in attributes_of(arg, origins)}
+        return set()
+    if isinstance(node, ast.IfExp):
+        return attributes_of(node.body, origins) | attributes_of(node.orelse, origins)
+    if isinstance(node, ast.BoolOp):
+        return {name for value in node.values for name in attributes_of(value, origins)}
+    node = without_index(node)
+    if isinstance(node, ast.Attribute):
+        return {node.attr}
+    return origins.get(node.id, set()) if isinstance(node, ast.Name) else set()
+
+
+def origins_of(function):
+    """For each name and attribute that a function assigns the attributes that it was assigned, or parts of which."""
+    origins = {}
+    for _ in range(3):
+        for node in ast.walk(function):
+            if isinstance(node, ast.Assign):
+                for target in node.targets:
+                    if isinstance(target, (ast.Name, ast.Attribute)):
+                        told = attributes_of(node.value, origins)
+                        origins.setdefault(last_name(target), set()).update(told)
+    return origins
+
+
+def mutated_names(nodes):
+    """The names of all that is changed there in place; a name that is only assigned anew is none of them."""
+    told = set()
+    for node in [part for top in nodes for part in ast.walk(top)]:
+        if isinstance(node, ast.Call) and isinstance(node.func, ast.Attribute) and node.func.attr in CHANGING:
+            told.add(last_name(node.func.value))
+        if isinstance(node, ast.Call) and isinstance(node.func, ast.Name) and node.func.id in HEAPS:
+            told.add(last_name(node.args[0]))
+        if isinstance(node, (ast.Subscript, ast.Attribute)) and not isinstance(node.ctx, ast.Load):
+            told.add(last_name(node))
+        if isinstance(node, ast.AugAssign) and not isinstance(node.value, ast.Constant):
+            told.add(last_name(node.target))
     return told
 
 
@@ -224,13 +289,26 @@ INTERFACE = {
         Blocks.__eq__ Blocks.cut""",
     "system": "KERNEL Definition System System.find System.number_of System.__eq__ System.copy System.define System.defer",
     "makers": "full_actions",
-    "session": """Outcome Outcome.__bool__ Session Session.stack Session.read Session.session Session.read_by
+    "session": """Outcome Outcome.__bool__ Session Session.stack Session.read Session.__call__ Session.read_by
         Session.reader_machine Session.demand Session.run Session.copy Session.of""",
     "passes": """Named Named.spelled Pass Pass.__add__ Inline Inline.__call__ Fold Fold.__call__ Thread Thread.__call__ Trim
         Trim.__call__ Tail Tail.__call__ settle""",
     "stages": "is_staged staged steps_saved",
     "code": "is_row is_source after_steps takes gives",
     "caching": "made",
+    "judging": "judge",
+    "engine": """Program Program.__getitem__ Program.__contains__ Program.__iter__ Program.put Engine Engine.at Engine.view Engine.by_code
+        Engine.copy""",
+    "saving": "save load",
+    "pruning": "reached way pruned renumbered",
+    "stops": "save_run load_run",
+    "stepping": """Tracer Tracer.step Tracer.over Tracer.out Tracer.go Tracer.back Tracer.until Tracer.give Tracer.moment Tracer.breaks
+        Tracer.watches Tracer.add_break Tracer.drop_break Tracer.watch Tracer.unwatch Tracer.stops Break Break.__enter__ Break.__exit__
+        gone_with""",
+    "views": "threaded views",
+    "source": "SOURCE source_words",
+    "minting": "mint Reminted Reminted.__bool__ remint rounds settles",
+    "blaming": "blame",
 }
 
 
@@ -284,6 +362,32 @@ class Rules(unittest.TestCase):
                     walked = {each for part in node.generators for each in walked_names(part.iter)}
                     parts = [part for part in ast.iter_child_nodes(node) if not isinstance(part, ast.comprehension)]
                     self.assertEqual(walked & changed_names(parts), set(), (name, node.lineno))
+
+    def test_what_a_loop_walks_was_not_handed_to_what_it_changes(self):
+        """If a loop walks an attribute or a part of it, what it changes was not assigned that attribute or a part of it."""
+        for name, tree in trees():
+            for function in ast.walk(tree):
+                if isinstance(function, ast.FunctionDef):
+                    origins = origins_of(function)
+                    for walked, block, line in loops_of(function):
+                        sources = {origin for each in walked for origin in attributes_of(each, origins)}
+                        for changed in mutated_names(block):
+                            self.assertEqual(sources & origins.get(changed, set()), set(), (name, line, changed))
+
+    def test_what_is_added_is_another_attribute(self):
+        """No +=, |=, extend or update at x.name gets a bare y.name."""
+        for name, tree in trees():
+            for node in ast.walk(tree):
+                where, given = None, []
+                if isinstance(node, ast.AugAssign) and isinstance(node.op, (ast.Add, ast.BitOr)):
+                    where, given = node.target, [node.value]
+                if isinstance(node, ast.Call) and isinstance(node.func, ast.Attribute) and node.func.attr in ("extend", "update"):
+                    where, given = node.func.value, node.args
+                for each in given:
+                    parts = each.elts if isinstance(each, (ast.Tuple, ast.List)) else [each]
+                    for part in [part.value if isinstance(part, ast.Starred) else part for part in parts]:
+                        if isinstance(where, (ast.Attribute, ast.Name)) and isinstance(part, (ast.Attribute, ast.Name)):
+                            self.assertNotEqual(last_name(where), last_name(part), (name, node.lineno))
 
     def test_strings(self):
         for name, tree in trees():
