@@ -142,6 +142,17 @@ class Blames(Case):
         lines = NUMBERS + [": x [: 1", "77 drop", ";] drop drop ;"]
         self.blamed(lines, END + 1, 0, "77")
 
+    def test_leaks_of_open_definitions(self):
+        lines = READER + ["1 , 2 , 3 ,", ": x [ 4 address ] 5", "drop drop ;"]
+        self.blamed(lines, END + 1, 8, "address")
+
+    def test_leaks_of_the_stack(self):
+        # The older reader stands in list 1, whose token is the same number on both sides.
+        lines = READER + ["1 also ' read previous", "drop marker m"]
+        self.blamed(lines, END, 2, "also")
+        lines = READER + [": look ' ;", "1 also look read previous", "drop marker m"]
+        self.blamed(lines, END + 1, 2, "also")
+
     def test_the_stack_between_lines(self):
         lines = NUMBERS + ["76 77", "drop drop"]
         self.assertEqual((settles(16, lines), blame(16, lines)), (0, None))

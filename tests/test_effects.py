@@ -1,9 +1,10 @@
 """The checker: the walk, the refusals and their order, the summary."""
 
+import random
 import time
 import unittest
 
-from tests import reference
+from tests import drawn, reference
 from tests.helpers import Case, ops, store_of
 from wordmint.effects import Refusal, Summary, check, standings
 from wordmint.stores import Store
@@ -380,6 +381,23 @@ class AtRandom(Checks):
                     kinds[kind] = kinds.get(kind, 0) + 1
         for kind in ("summary", "unsaid", "free", "callee", "under", "own", "left", "out", "ragged"):
             self.assertGreater(kinds.get(kind, 0), 20, kind)
+
+    def test_bodies_that_go_straight_on(self):
+        luck = random.Random(5)
+        kinds = {}
+        for _ in range(600):
+            body = drawn.straight_body(luck, luck.randint(0, 5), luck.randint(0, 6))
+            effect = reference.Check([], body, None).verdict.effect
+            for declared in (None, effect, (effect[0] + 1, effect[1] + 1), (luck.randint(0, 3), luck.randint(0, 3))):
+                if declared is None or max(declared) <= 8:
+                    verdict = check([], body, declared)
+                    self.assertEqual(vars(verdict), vars(reference.Check([], body, declared).verdict), (body, declared))
+                    kind = getattr(verdict, "kind", "summary")
+                    kinds[kind] = kinds.get(kind, 0) + 1
+        for kind in ("summary", "under", "out"):
+            self.assertGreater(kinds.get(kind, 0), 20, kinds)
+        self.assertIsInstance(check([], ops("drop " * 200 + "exit")), Summary)
+        self.assertEqual(check([], ops("drop " * 201 + "exit")).kind, "long")
 
 
 if __name__ == "__main__":

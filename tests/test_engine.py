@@ -29,6 +29,7 @@ class Programs(Case):
         store = store_of("dup exit", "unless#2 lit#1 exit")
         for registers in (1, 9, 0, True, None, "4"):
             self.fails(BadRegisters, registers, Program, store, registers)
+            self.fails(BadRegisters, registers, Program, Store(16), registers)
         program = Program(store)
         for number in (-1, 2, True, None, "0", (0,)):
             self.fails(NoWord, number, program.__getitem__, number)
@@ -339,7 +340,8 @@ class Rows(Case):
 
     def test_registers_at_the_beginning_and_behind_a_call(self):
         store = store_of("here drop exit", "here here call#0 + drop exit", ("dup unless#4 recurse exit exit", (1, 1)),
-                         "token#0 run#0,0 exit")
+                         "here drop token#0 run#0,0 exit",
+                         "here drop token#0 catch#0 drop exit")
         program = Program(store, 2)
         for number in range(len(store)):
             engine = Engine(program, store.copy(), number, stack=(0,))

@@ -83,6 +83,22 @@ class Remint(Base):
         self.refused("stack", None, remint, system, ["1 : x"])
         self.fails(StillOpen, "x", remint, system, [": x [:"])
 
+    def test_rooms_and_steps(self):
+        """The reader has just the rooms and the steps that reading by it has if none are told."""
+        frames = ": d dup 0= [ unless> ] exit [ >land ] 1 - recurse ; #{} d drop"
+        steps = ": b <mark ; immediate : u <unless ; immediate : run-down b 1 - dup 0= u drop ; #{} run-down"
+        for told, low, high in ((lambda count: [" ".join(["1"] * count)] + [" ".join(["drop"] * 30)] * 2 + ["drop"] * (count - 60), 60, 66),
+                                (lambda count: [frames.format(count)], 1, 80), (lambda count: [steps.format(count)], 1, 5000)):
+            system = mint(16, READER)
+            while high - low > 1:
+                middle = (low + high) // 2
+                if Session.of(system).read_by("read", told(middle)):
+                    low = middle
+                else:
+                    high = middle
+            self.assertEqual(remint(system, told(low)).leaks, ())
+            self.refused(Session.of(system).read_by("read", told(high)).kind, 0, remint, system, told(high))
+
     def test_seven_and_eight_lists(self):
         system = mint(16, READER + ["new-list drop"] * 5)
         self.assertEqual((system.lists.count, remint(system, [": x ;"]).system), (7, mint(16, [": x ;"])))

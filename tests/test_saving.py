@@ -357,6 +357,7 @@ class Wrong(Case):
                      f"made =five 1 later 2 {FIRST + 2}", "made =five 1 later 2 -1", "made =five 1 later 2 - -", "made =five 1 later - 2",
                      "made =five 1 later 2 00", "made =five 01 later 2 -", "made =five 1 later 2 - exit"):
             self.wrong(self.image, at, line)
+        load(self.image[:at] + [f"made =five 1 later 0 {FIRST + 1}"] + self.image[at + 1:])
         # Other behaviours, also none: what a word takes and leaves is checked anew.
         for behaviour, effect in (("-", (0, 1)), (str(FIRST), (0, 1)), ("0", (0, 2)), (str(KERNEL.index("drop")), (0, 0))):
             system = load(self.image[:at] + [f"made =five 0 now 2048 {behaviour}"] + self.image[at + 1:])

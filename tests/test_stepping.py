@@ -27,6 +27,16 @@ def shown(machine):
     return told
 
 
+class Counting(Machine):
+    """A machine that counts all steps that it is told to do."""
+
+    done = 0
+
+    def step(self):
+        self.done += 1
+        return super().step()
+
+
 class Base(Case):
     def tracer(self, text, *stack, older=(), **named):
         """A tracer of a word of a store with older words; the word is the last one."""
@@ -380,6 +390,15 @@ class Blocks(Base):
                 self.assertEqual(tracer.go(), ("break", moment, 0, 3))
             self.assertEqual(tracer.breaks, ())
 
+    def test_made_ahead_of_another_block(self):
+        tracer = self.tracer("lit#1 lit#2 lit#3 exit")
+        spot = Break(tracer, 0, 2)
+        with Break(tracer, 0, 1):
+            with spot:
+                self.assertEqual(tracer.breaks, ((0, 1), (0, 2)))
+            self.assertEqual(tracer.breaks, ((0, 1),))
+        self.assertEqual(tracer.breaks, ())
+
     def test_gone_with(self):
         tracer = self.tracer("lit#3 lit#-1 + dup unless#6 goto#1 drop exit")
         self.assertEqual(gone_with(tracer, 0, 5), ("break", 5, 0, 5))
@@ -432,6 +451,27 @@ class GoingBack(Base):
             self.assertEqual(machine.kind, "deep")
             self.assertEqual((tracer.back()[:2], machine.kind), (("reached", 12), "runs"))
         self.assertEqual((machine.data, machine.frames), (64, 9))
+
+    def test_less_room_than_there_was(self):
+        tracer = self.tracer("lit#1 lit#2 lit#3 drop drop drop recurse exit", *range(8))
+        tracer.until(27)
+        machine = tracer.machine
+        self.assertEqual(len(machine.stack), 8)
+        with Rooms(machine, 8, 9):
+            self.assertEqual((tracer.until(9), len(machine.stack), machine.data), (("reached", 9, 0, 2), 10, 8))
+            self.assertEqual((tracer.until(7), machine.stack), (("reached", 7, 0, 0), tuple(range(8))))
+            self.assertEqual((tracer.go(), machine.kind), (("end", 7, 0, 0), "over"))
+
+    def test_going_back_does_not_begin_anew(self):
+        machine = Counting(store_of("lit#1 + dup drop goto#0"), 0, stack=(0,))
+        tracer = Tracer(machine)
+        for _ in range(4):
+            tracer.go()
+        for moment in (79999, 60000, 40001, 100, 99):
+            machine.done = 0
+            tracer.until(moment)
+            self.assertLess(machine.done, 1000)
+            self.assertEqual(machine.steps, moment)
 
     def test_ends_that_were_found(self):
         tracer = self.tracer("lit#1 dup exit", *range(7), data=8)
@@ -524,6 +564,11 @@ class Given(Base):
         for numbers, wrong in (((1, True, None), True), ((32768,), 32768), ((-32769,), -32769), ((1, (0,)), (0,)), (("1",), "1")):
             self.fails(BadNumber, wrong, tracer.give, numbers)
         self.assertEqual((tracer.machine.kind, tracer.machine.feed), ("asks", ()))
+        # Nothing is forgotten then.
+        tracer.give((5,))
+        tracer.until(0)
+        self.fails(BadNumber, True, tracer.give, (7, True))
+        self.assertEqual((tracer.machine.feed, tracer.go(), tracer.machine.output), ((1,), ("end", 5, None, None), "6 "))
 
     def test_a_machine_that_asked_already(self):
         machine = Machine(store_of("ask . exit"), 0)

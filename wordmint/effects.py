@@ -15,6 +15,8 @@ DEEPEST_TAKEN = 200
 OUT = -1
 UNKNOWN_KINDS = {"recurse": "unsaid", "perform": "free", "forget": "free", "call": "callee", "jump": "callee"}
 UNBOUND_OPS = ("recurse", "run", "catch", "deferred")
+# What hangs on answers or own items, or moves the place: such a body is walked.
+WALKED_OPS = ("goto", "unless", "exit", "throw", ">r", "r>", "r@")
 
 
 class Summary:
@@ -343,8 +345,27 @@ def summary_of(walk):
     return Summary(ins, outs, rise, frames, row)
 
 
+def straight(body, declared):
+    """The summary of a body that goes straight on to its end; None if it does not, or may be refused."""
+    depth, need, rise = (0, 0, 0)
+    for op, _ in body[:-1]:
+        if op in WALKED_OPS or op not in EFFECTS:
+            return None
+        takes, leaves = EFFECTS[op]
+        need = max(need, takes - depth)
+        depth += leaves - takes
+        rise = max(rise, depth)
+    ins, outs = (need, need + depth) if declared is None else declared
+    if body[-1][0] != "exit" or need > min(ins, DEEPEST_TAKEN) or outs - ins != depth:
+        return None
+    return Summary(ins, outs, rise, 1, ())
+
+
 def check(words, body, declared=None):
     """The verdict about a body over older words."""
+    summary = straight(body, declared)
+    if summary is not None:
+        return summary
     walk, refusal = walked(words, body, declared)
     return summary_of(walk) if refusal is None else refusal
 

@@ -22,9 +22,8 @@ def deferred_ahead(words, number):
 
 def kept_by(words, number, found):
     """The actions that a marker keeps for the deferred words among those that were found."""
-    actions = words[number].keeps[4]
-    pairs = zip(deferred_ahead(words, number), actions)
-    return [action for at, action in pairs if at in found and action is not None]
+    deferred = deferred_ahead(words, number)
+    return [action for at, action in zip(deferred, words[number].keeps[4]) if at in found and action is not None]
 
 
 def spread(words, found, waiting):
@@ -92,8 +91,8 @@ def kept_in(words, number, move):
     if keeps is None:
         return None
     count, order, into, row, actions = keeps
-    pairs = zip(deferred_ahead(words, number), actions)
-    left = tuple([move.number_of(action) for at, action in pairs if at in move.numbers])
+    deferred = deferred_ahead(words, number)
+    left = tuple([move.number_of(action) for at, action in zip(deferred, actions) if at in move.numbers])
     return (count, order, into, row, left)
 
 

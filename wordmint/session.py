@@ -1,6 +1,6 @@
 """Sessions: a system and a stack, and texts that are read into them."""
 
-from wordmint.cells import check_number, check_width
+from wordmint.cells import check_width
 from wordmint.errors import Refused, Thrown
 from wordmint.hosting import Reading
 from wordmint.machine import Machine, check_rooms
@@ -49,11 +49,6 @@ class Session:
         """A session like this one that goes its own way."""
         return Session(self.system.width, data=self.data, frames=self.frames, system=self.system.copy(), pile=self.pile)
 
-    def check_feed(self, feed):
-        """Raises BadNumber of the first in the feed that is no number."""
-        for number in feed:
-            check_number(self.system.width, number)
-
     def begun(self, feed, steps):
         """A reading into a copy of the system, which takes its place if the reading is done."""
         return Reading(self.system.copy(), self.pile, feed, steps, self.data, self.frames)
@@ -74,7 +69,6 @@ class Session:
     def read(self, lines, *, feed=(), steps=20000):
         """Reads a text; the outcome."""
         text = check_text(lines)
-        self.check_feed(feed)
         reading = self.begun(feed, steps)
         reading.read(text)
         return self.ended(reading, True)
@@ -94,7 +88,6 @@ class Session:
         """The machine by which read_by would read, at its beginning, on a copy of the system."""
         number = self.system.number_of(reader)
         text = check_text(lines)
-        self.check_feed(feed)
         system = self.system.copy()
         system.source = Source(text)
         return Machine(system, number, stack=self.pile, feed=feed, actions=full_actions(), data=self.data,
@@ -104,7 +97,6 @@ class Session:
         """Reads a text by a word of the system; the outcome."""
         number = self.system.number_of(reader)
         text = check_text(lines)
-        self.check_feed(feed)
         reading = self.begun(feed, steps)
         reading.system.source = Source(text)
         reading.run(number)
@@ -113,7 +105,6 @@ class Session:
     def run(self, name, *, feed=(), steps=20000):
         """Runs a word on the stack; the outcome."""
         number = self.system.number_of(name)
-        self.check_feed(feed)
         reading = self.begun(feed, steps)
         reading.run(number)
         return self.ended(reading, False)

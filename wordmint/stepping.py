@@ -30,6 +30,16 @@ def check_break(tracer, number, place):
         raise NoBreak(place)
 
 
+def up_to(table, moment):
+    """What a table has for the moments up to this one."""
+    return {at: table[at] for at in table if at <= moment}
+
+
+def every(table, stride):
+    """What a table has for the moments that the stride divides."""
+    return {at: table[at] for at in table if at % stride == 0}
+
+
 class Tracer:
     """What goes with a machine: its moment, breaks and watches, and what going back needs."""
 
@@ -88,8 +98,8 @@ class Tracer:
             check_number(self.machine.store.width, number)
         if len(numbers) == 0:
             return
-        self.gifts = {at: self.gifts[at] for at in self.gifts if at <= self.now}
-        self.kept = {at: self.kept[at] for at in self.kept if at <= self.now}
+        self.gifts = up_to(self.gifts, self.now)
+        self.kept = up_to(self.kept, self.now)
         self.gifts[self.now] = (*self.gifts.get(self.now, ()), *numbers)
         self.machine.give(numbers)
 
@@ -117,7 +127,7 @@ class Tracer:
         """Keeps the machine as it is; if there are too many by now, only every other one stays."""
         if len(self.kept) >= MOST_KEPT:
             self.stride = 2 * self.stride
-            self.kept = {at: self.kept[at] for at in self.kept if at % self.stride == 0}
+            self.kept = every(self.kept, self.stride)
         if self.now % self.stride == 0:
             self.kept[self.now] = self.machine.copy()
 

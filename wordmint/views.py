@@ -20,8 +20,9 @@ def threaded(engine):
     view.steps = 0
     if view.kind not in ENDED_KINDS:
         view.kind = "runs"
-    last = len(view.calls) - 1
-    for at, frame in enumerate(view.calls):
+    calls = list(view.calls)
+    last = len(calls) - 1
+    for at, frame in enumerate(calls):
         code = frame.code
         if code is None:
             continue
