@@ -7,7 +7,7 @@ from wordmint.lists import Lists, find
 from wordmint.memory import Memory
 from wordmint.moving import Move
 from wordmint.reading import Source
-from wordmint.system import KERNEL, KERNEL_HOME
+from wordmint.system import KERNEL, KERNEL_HOME, System
 
 OWN_LIST = 1
 NO_NUMBER = -1
@@ -93,15 +93,15 @@ class Seal:
 
     def cut_out(self, system, move):
         """What came, as a system of its own; nothing of it may be a leak."""
-        fresh = system.copy()
-        older = list(system.words[:len(KERNEL)])
-        fresh.words = [*older, *[move.word_of(word, None) for word in system.words[self.count:]]]
+        younger = [move.word_of(word, None) for word in system.words[self.count:]]
+        fresh = System(system.width, words=[*system.words[:len(KERNEL)], *younger])
         lists = system.lists
         order = tuple([move.home_of(home) for home in lists.order])
         fresh.lists = Lists(len(move.lists), order, move.home_of(lists.into))
         row = system.memory.all_bytes()
         fresh.memory = Memory.of(system.width, (*row[:system.width // 8], *row[self.length:]))
         fresh.opened = [moved(definition, move) for definition in system.opened]
+        fresh.compiling = system.compiling
         return fresh
 
 

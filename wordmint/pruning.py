@@ -101,9 +101,8 @@ def pruned(store, roots):
     numbers = reached(store, roots)
     need_nothing_open(store)
     move = Move({number: place for place, number in enumerate(numbers)}, {}, 0, 0)
-    fresh = store.copy()
-    fresh.words = [move.word_of(store.words[number], kept_in(store.words, number, move)) for number in numbers]
-    return (fresh, numbers)
+    left = [move.word_of(store.words[number], kept_in(store.words, number, move)) for number in numbers]
+    return (store.with_words(left), numbers)
 
 
 def renumbered(items, numbers):

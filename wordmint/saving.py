@@ -67,7 +67,7 @@ def begun(lines):
     """Passes the lines ahead of the words; the store or system that they tell of."""
     kind = lines.choice_in(lines.first_word(), KINDS)
     words = lines.counted(KINDS[kind], 1)
-    width = WIDTHS[lines.choice_in(words[0], [str(width) for width in WIDTHS])]
+    width = WIDTHS[lines.choice_in(words[0], [str(each) for each in WIDTHS])]
     lines.pass_line()
     store = Store(width) if kind == 0 else System(width)
     if kind == 1:

@@ -70,14 +70,14 @@ def are_alike(one, other):
 class Store:
     """A width, a memory, and words, which are checked when they are added.
 
-    A store that is made like another one begins with copies of what that one has.
+    A store that is made like another one begins with copies of what that one has, but for the words, which are told.
     """
 
-    def __init__(self, width, *, like=None):
+    def __init__(self, width, *, like=None, words=None):
         check_width(width)
         self.width = width
         self.memory = Memory(width) if like is None else like.memory.copy()
-        self.words = [] if like is None else list(like.words)
+        self.words = [] if words is None else words
 
     def __len__(self):
         return len(self.words)
@@ -94,7 +94,11 @@ class Store:
 
     def copy(self):
         """A store of the same words that goes its own way."""
-        return Store(self.width, like=self)
+        return self.with_words(list(self.words))
+
+    def with_words(self, words):
+        """A store with these words, which are not copied, and copies of all else."""
+        return Store(self.width, like=self, words=words)
 
     def define(self, body, *, name="", declared=None, immediate=False):
         """Adds a plain word; its number."""
@@ -128,6 +132,4 @@ class Store:
         # Words refer to older ones alone, so only the younger words can have another verdict now.
         for younger in list(self.words[number + 1:]):
             fresh.append(checked(fresh, younger, younger.body, younger.declared))
-        other = self.copy()
-        other.words = fresh
-        return other
+        return self.with_words(fresh)

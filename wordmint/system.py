@@ -57,10 +57,9 @@ class Definition:
 class System(Store):
     """A store with the kernel words, lists, open definitions, the mark whether it is compiling, and a source."""
 
-    def __init__(self, width, *, like=None):
-        super().__init__(width, like=like)
+    def __init__(self, width, *, like=None, words=None):
+        super().__init__(width, like=like, words=kernel_words() if words is None else words)
         if like is None:
-            self.words = kernel_words()
             self.lists = Lists()
             self.opened = []
             self.compiling = False
@@ -92,7 +91,11 @@ class System(Store):
 
     def copy(self):
         """A system of the same words that goes its own way."""
-        return System(self.width, like=self)
+        return self.with_words(list(self.words))
+
+    def with_words(self, words):
+        """A system with these words, which are not copied, and copies of all else."""
+        return System(self.width, like=self, words=words)
 
     def define(self, body, *, name="", declared=None, immediate=False):
         """Adds a plain word to the list for new words; its number."""
