@@ -170,6 +170,20 @@ class Blames(Case):
         self.blamed(reader("[ <goto >land ] ;", "[ <goto >land ] 5 ;"), 0, 2, "a-local")
         self.blamed(reader("[ <goto >land ] ;", "[ <goto >land ] 5 throw ;"), 0, 2, "a-local")
 
+    def test_a_reader_that_leaves_a_definition_open(self):
+        # Behind the literal 77 it passes all that is left.
+        lines = reader("drop state [ unless> ] literal [ goto> swap >land ] [ >land ] ;",
+                       "drop state [ unless> ] dup literal 7 11 * = [ unless> <mark ] word [ unless> swap <goto >land >land goto> swap >land ] [ >land ] ;")
+        with self.assertRaises(StillOpen):
+            remint(mint(16, lines + [": x 77 ;"]), lines + [": x 77 ;"])
+        self.blamed(lines + [": x 77 ;"], END, 7, ";")
+
+    def test_a_difference_behind_no_line(self):
+        # Read line by line, x is never there, and its line ends in the same error on both sides.
+        lines = NUMBERS + [":", "x ;", "x 77 ,"]
+        self.assertNotEqual(settles(16, lines), 0)
+        self.assertIsNone(blame(16, lines))
+
     def test_the_source(self):
         lines = tuple([line.replace("drop -13 throw", "drop 1 +").replace("state if literal", "1 + state if literal") for line in SOURCE])
         self.assertNotEqual(lines, SOURCE)
