@@ -79,6 +79,14 @@ class Programs(Case):
         engine.go(9)
         self.assertEqual((engine.kind, engine.stack, engine.steps), ("done", (1, 2), 4))
 
+    def test_put_in_a_loop_over_the_program(self):
+        store = store_of("dup exit", "perform exit", "call#0 exit", "lit#1 call#2 exit")
+        program = Program(store, 2)
+        wanted = [(number, made(store, number, 2)) for number in (0, 2, 3)]
+        for number in program:
+            program.put(number, *program[number])
+        self.assertEqual([(number, program[number]) for number in program], wanted)
+
 
 class Making(Case):
     def test_errors_of_a_machine(self):

@@ -7,7 +7,7 @@ from tests.helpers import Case, ops, store_of
 from wordmint.errors import BadItem, NoWord, StillOpen
 from wordmint.machine import Machine
 from wordmint.makers import full_actions
-from wordmint.pruning import pruned, reached, renumbered, way
+from wordmint.pruning import distances, pruned, reached, renumbered, way
 from wordmint.saving import load, save
 from wordmint.session import Session
 from wordmint.stores import Store
@@ -181,6 +181,18 @@ class Ways(Case):
         # Of the three words between two others the oldest one is taken.
         self.assertEqual(told, (24, 21, 20, 17, 16, 13, 12, 9, 8, 5, 4, 1, 0))
         self.assertEqual(told, plain_way(store.words, last, 0))
+
+    def test_distances(self):
+        store = store_of("exit", "call#0 exit", "call#0 exit", "call#2 call#1 exit", "token#3 drop call#0 exit", "exit")
+        self.assertEqual(distances(store.words, 0), {0: 0, 1: 1, 2: 1, 4: 1, 3: 2})
+        self.assertEqual(distances(store.words, 3), {3: 0, 4: 1})
+        luck = random.Random(92)
+        for _ in range(20):
+            words = drawn.drawn_store(luck).words
+            for goal in range(len(words)):
+                ways = [plain_way(words, number, goal) for number in range(len(words))]
+                wanted = {number: len(told) - 1 for number, told in enumerate(ways) if told is not None}
+                self.assertEqual(distances(words, goal), wanted)
 
     def test_long_chains(self):
         store = store_of("exit")

@@ -55,7 +55,8 @@ def blamed(pair, number, line):
     """The word to blame in a line behind which both sides differ."""
     told = (number, 0, "")
     text = (line,)
-    for _, column, word in words_of(text):
+    words = list(words_of(text))
+    for _, column, word in words:
         told = (number, column, word)
         _, differ = pair.read(line[:column + len(word)])
         if differ:
@@ -70,7 +71,7 @@ def blame(width, lines, *, reader="read"):
     pair = Pair(seal, Session(width), seal.sealed(system), ())
     if is_own(system, lines, reader):
         return None
-    for number, line in enumerate(lines):
+    for number, line in enumerate(list(lines)):
         following, differ = pair.read(line)
         if differ:
             return blamed(pair, number, line)

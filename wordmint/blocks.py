@@ -56,7 +56,7 @@ class Blocks:
         numbers = tuple(range(start, start + len(pieces)))
         for number in numbers:
             check_block(number)
-        for number, piece in zip(numbers, pieces):
+        for number, piece in zip(list(numbers), list(pieces)):
             self[number] = piece
         return numbers
 

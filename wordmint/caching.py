@@ -189,7 +189,7 @@ def made(store, number, registers):
     places = [place for place, _, _, _ in standings(store.words, word.body, word.declared)]
     landings = landings_of(word.body, places)
     follows = True
-    for place in places:
+    for place in list(places):
         if place in landings:
             coder.land(place, follows)
         op, arg = word.body[place]

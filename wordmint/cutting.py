@@ -87,7 +87,7 @@ class Seal:
     def open_leaks(self, system, move):
         """The same for open definitions."""
         leaks = []
-        for definition in system.opened:
+        for definition in list(system.opened):
             leaks.extend(self.row_leaks(move, definition.rows, NO_NUMBER))
         return leaks
 
@@ -100,7 +100,7 @@ class Seal:
         fresh.lists = Lists(len(move.lists), order, move.home_of(lists.into))
         row = system.memory.all_bytes()
         fresh.memory = Memory.of(system.width, (*row[:system.width // 8], *row[self.length:]))
-        fresh.opened = [moved(definition, move) for definition in system.opened]
+        fresh.opened = [moved(definition, move) for definition in list(system.opened)]
         fresh.compiling = system.compiling
         return fresh
 

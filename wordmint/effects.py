@@ -175,7 +175,7 @@ def own_code(walk):
             return code
         if place not in seen:
             seen[place] = True
-            for where, longer in onward(walk, place, code):
+            for where, longer in list(onward(walk, place, code)):
                 if length_of(longer) <= LONGEST_ROW:
                     heappush(queue, (longer, steps + 1, where))
     return None
@@ -267,7 +267,7 @@ def go_on(walk, way, ways):
     walk.firsts[place] = (code, depth, held, need)
     takes, leaves = effect_at(walk, place)
     held = held_behind(walk.body[place][0], held)
-    for where, longer in ways:
+    for where, longer in list(ways):
         more = (depth - takes + leaves, held, max(need, takes - depth))
         heappush(walk.queue, (longer, steps + 1, where, place, *more))
 

@@ -48,7 +48,7 @@ class Program:
         self.registers = registers
         self.kept = store.copy()
         self.codes = {}
-        for number, word in enumerate(self.kept.words):
+        for number, word in enumerate(list(self.kept.words)):
             if word.effect is not None:
                 rows, paper = made(self.kept, number, registers)
                 self.codes[number] = Coded(self.kept.words, number, rows, paper)

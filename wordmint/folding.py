@@ -31,7 +31,7 @@ class Folding:
         # What comes in the place of each instruction that was taken out, and how many gotos lead to each that stays.
         self.moved = {}
         self.landings = [0] * (count + 1)
-        for op, arg in body:
+        for op, arg in list(body):
             if op in PLACE_OPS:
                 self.landings[arg] += 1
         # Which way the least row goes at each unless that it comes to, or None as long as no row is known.
@@ -65,7 +65,7 @@ class Folding:
         """The body of the instructions that stay."""
         places = {number: place for place, number in enumerate(numbers)}
         body = []
-        for number in numbers:
+        for number in list(numbers):
             op, arg = self.rows[number]
             body.append((op, places[self.stays(arg)]) if op in PLACE_OPS else (op, arg))
         return tuple(body)

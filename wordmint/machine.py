@@ -70,7 +70,7 @@ class Machine:
         self.output = other.output
         self.pile = list(other.pile)
         self.given = list(other.given)
-        self.calls = [frame.copy() for frame in other.calls]
+        self.calls = [frame.copy() for frame in list(other.calls)]
 
     def start(self, number):
         """Begins to run a word with what is there, whatever ran until now."""

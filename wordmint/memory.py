@@ -101,7 +101,7 @@ class Memory:
             return ""
         self.check_address(address, count)
         signs = []
-        for code in self._row[address:address + count]:
+        for code in list(self._row[address:address + count]):
             sign = printed(code)
             if sign == "":
                 raise BadCode(code)

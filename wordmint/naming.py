@@ -98,7 +98,7 @@ def put_back(system, number):
     count, order, into, row, actions = system.words[number].keeps
     words = list(system.words[:number])
     deferred = [place for place, word in enumerate(words) if word.kind == "deferred"]
-    for place, action in zip(deferred, actions):
+    for place, action in zip(list(deferred), list(actions)):
         words[place] = acting(words[place], action)
     system.words = words
     system.memory = Memory.of(system.width, row)

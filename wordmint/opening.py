@@ -83,7 +83,7 @@ def reached_by_calls(store, number):
     waiting = [number]
     while waiting:
         caller = waiting.pop()
-        for other in called(store, caller):
+        for other in list(called(store, caller)):
             if other not in found:
                 found[other] = True
                 waiting.append(other)
@@ -95,7 +95,7 @@ def opened(store, number):
     need_word(store, number)
     program = Store(WIDTH)
     numbers = {}
-    for old in reached_by_calls(store, number):
+    for old in list(reached_by_calls(store, number)):
         body = opened_body(store, old, numbers)
         numbers[old] = program.define(body, declared=store.words[old].declared)
     return (program, numbers[number])

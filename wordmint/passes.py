@@ -33,7 +33,7 @@ def inlined(words, body):
     """The body with the bodies of small words instead of calls, from the front, as far as there is room."""
     parts = []
     length = len(body)
-    for row in body:
+    for row in list(body):
         op, arg = row
         part = (row,)
         if op == "call" and is_small(words[arg]):
@@ -55,7 +55,7 @@ def chain_ends(body):
             way[place] = True
             place = body[place][1]
         end = ends.get(place) if body[place][0] == "goto" else place
-        for step in way:
+        for step in list(way):
             ends[step] = end
     return ends
 
@@ -64,7 +64,7 @@ def led_on(body):
     """The body in which nothing leads to a goto but what goes round without end."""
     ends = chain_ends(body)
     rows = []
-    for op, arg in body:
+    for op, arg in list(body):
         end = ends.get(arg) if op in PLACE_OPS else None
         rows.append((op, arg) if end is None else (op, end))
     return rows
@@ -175,7 +175,7 @@ class Tail(Named, Pass):
         need_word(store, number)
         words = store.words
         rows = list(body)
-        for place, _, _, _ in standings(words, body, words[number].effect):
+        for place, _, _, _ in list(standings(words, body, words[number].effect)):
             op, arg = body[place]
             if op in ("call", "recurse") and body[place + 1][0] == "exit":
                 rows[place] = tail_of(words, body, op, arg)

@@ -62,8 +62,8 @@ def distances(words, goal):
     waiting = [goal]
     while waiting:
         further = []
-        for number in waiting:
-            for caller in callers.get(number, []):
+        for number in list(waiting):
+            for caller in list(callers.get(number, [])):
                 if caller not in far:
                     far[caller] = far[number] + 1
                     further.append(caller)

@@ -50,7 +50,7 @@ def image_of(store):
     if isinstance(store, System):
         lines.append(lists_line(store.lists.count, store.lists.into, store.lists.order))
     lines.extend(bytes_lines(store.memory.all_bytes()))
-    for word in store.words:
+    for word in list(store.words):
         if word.kind != "kernel":
             lines.extend(word_lines(word))
     lines.append(END)
@@ -168,7 +168,7 @@ def loaded(lines):
         lines.must(pass_word is not None)
         add_word(store, pass_word(lines, store))
         verb = lines.first_word()
-    for word in store.words:
+    for word in list(store.words):
         lines.must(is_fit(store.words, word.action, word.declared))
     lines.pass_whole(END)
     return store

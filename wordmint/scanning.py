@@ -125,7 +125,7 @@ def append_caught(machine, instruction, taken):
         memory.grow(len(codes))
     except NoRoom:
         raise Thrown(-7) from None
-    for place, code in enumerate(codes):
+    for place, code in enumerate(list(codes)):
         memory[address + place] = code
     return (address, len(codes))
 

@@ -22,15 +22,14 @@ def put_body(store, number, body, declared):
 def staged(store):
     """A new store with the bodies of the staged words led through the passes."""
     fresh = store.copy()
-    old = list(store.words)
     shorten = Inline() + Fold() + Thread() + Trim()
     finish = Tail() + Trim()
-    for number, word in enumerate(old):
+    for number, word in enumerate(list(store.words)):
         if is_staged(word):
             put_body(fresh, number, settle(shorten, fresh, number, word.body), word.effect)
         else:
             put_body(fresh, number, word.body, word.declared)
-    for number, word in enumerate(old):
+    for number, word in enumerate(list(store.words)):
         if is_staged(word):
             put_body(fresh, number, finish(fresh, number, fresh.words[number].body), word.effect)
         else:

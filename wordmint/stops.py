@@ -43,7 +43,7 @@ def system_lines(system):
     lines = [spelled(["state", 1 if system.compiling else 0]), "caught " + system.caught,
              spelled(["source", source.line, source.column, len(texts)])]
     lines.extend(["text " + line for line in texts])
-    for definition in system.opened:
+    for definition in list(system.opened):
         lines.extend(definition_lines(definition))
     return lines
 
@@ -73,7 +73,7 @@ def save_run(machine):
     lines.append(items_line("stack", machine.stack))
     lines.append(items_line("feed", machine.feed))
     lines.append(output_line(machine.output))
-    for frame in machine.calls:
+    for frame in list(machine.calls):
         lines.extend(frame_lines(frame))
     lines.append(LAST)
     return lines

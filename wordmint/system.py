@@ -67,7 +67,7 @@ class System(Store):
             self.caught = ""
         else:
             self.lists = like.lists.copy()
-            self.opened = [definition.copy() for definition in like.opened]
+            self.opened = [definition.copy() for definition in list(like.opened)]
             self.compiling = like.compiling
             self.source = like.source.copy()
             self.caught = like.caught

@@ -20,9 +20,8 @@ def threaded(engine):
     view.steps = 0
     if view.kind not in ENDED_KINDS:
         view.kind = "runs"
-    calls = list(view.calls)
-    last = len(calls) - 1
-    for at, frame in enumerate(calls):
+    last = len(view.calls) - 1
+    for at, frame in enumerate(list(view.calls)):
         code = frame.code
         if code is None:
             continue
